@@ -557,6 +557,12 @@ func TestP4_1Read(t *testing.T) {
 	if got, e := Read(Single, long+"e-"+strconv.Itoa(len(long))); e != api.OK || got != 0x3f800000 {
 		t.Errorf("Read of many nines: %x, %v", got, e)
 	}
+	if got, e := Read(Single, "0."+strings.Repeat("0", 19980)+"1e30000"); e != api.ErrOver || got != 0 {
+		t.Errorf("Read of a great exponent behind many zeros: %x, %v", got, e)
+	}
+	if got, e := Read(Single, strings.Repeat("1", 19980)+"e-30000"); e != api.OK || got != 0 {
+		t.Errorf("Read of a low exponent behind many digits: %x, %v", got, e)
+	}
 	if _, e := Read(Single, strings.Repeat("1", api.MaxDigits+1)); e != api.ErrLarge {
 		t.Errorf("a text that is too long: %v", e)
 	}

@@ -152,9 +152,6 @@ func product(dimensions []int) int {
 	const beyond = 1 << 40
 	n := 1
 	for _, d := range dimensions {
-		if d == 0 {
-			return 0
-		}
 		n = min(n*d, beyond)
 	}
 	return n

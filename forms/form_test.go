@@ -319,6 +319,23 @@ func TestP1_1Labels(t *testing.T) {
 	}
 }
 
+// With references to one part, each copy of it has memory of its own.
+func TestP1_1LabelMemory(t *testing.T) {
+	pair := node(api.FormComplex, "", num("1"), num("2"))
+	f := vec(lab("0", pair), ref("0"), ref("0"), lab("1", vec(pair)), ref("1"))
+	before := clone(f)
+	x, _ := Normal(f)
+	y, _ := Plain(f)
+	for _, z := range []api.Form{x, y} {
+		want := clone(z)
+		z.Kids[1].Kids[0].Text = "9"
+		z.Kids[3].Kids[0].Kids[0].Text = "9"
+		if !Equal(f, before) || !Equal(z.Kids[0], want.Kids[0]) || !Equal(z.Kids[2], want.Kids[2]) || !Equal(z.Kids[4], want.Kids[4]) {
+			t.Errorf("shared memory: %v, %v", f, z)
+		}
+	}
+}
+
 func TestP1_1LabelLimits(t *testing.T) {
 	pair := node(api.FormComplex, "", num("1"), num("2"))
 	// A complex number in place of a reference has two nodes more, and is deeper.

@@ -92,7 +92,7 @@ func (m *maker) pairs(kids []api.Form) int {
 // met walks the nodes that are met from some nodes, in their order, each one once.
 func met(g []Node, from ...int) iter.Seq[int] {
 	return func(yield func(int) bool) {
-		seen := map[int]bool{}
+		seen := make([]bool, len(g))
 		var visit func(i int) bool
 		visit = func(i int) bool {
 			if seen[i] {
@@ -241,13 +241,13 @@ func Build(g []Node) (api.Form, api.Errno) {
 	}
 	b := builder{g: g, count: places(g), numbers: map[int]string{}, room: api.MaxForm}
 	out := b.form(0)
-	if b.room < 0 || tooLarge(out) {
+	if tooLarge(out) {
 		return api.Form{}, api.ErrSize // so many labels that there are not enough numbers need more nodes
 	}
 	return out, api.OK
 }
 
-// builder makes the form of a graph; numbers has the labels of the nodes that were met and have several places.
+// builder makes the form of a graph; numbers has the labels of the nodes that were met and have several places. Without room for a further node it goes on no deeper: the form is too large in any case.
 type builder struct {
 	g       []Node
 	count   []int

@@ -98,7 +98,7 @@ func Plain(f api.Form) (api.Form, api.Errno) {
 	}
 	p := plain{labels: labelsOf(f), room: api.MaxForm}
 	out := p.form(f)
-	if p.room < 0 || tooLarge(out) {
+	if tooLarge(out) {
 		return api.Form{}, api.ErrSize
 	}
 	return out, api.OK
@@ -121,7 +121,7 @@ func isCircle(f api.Form, open map[string]bool) bool {
 	return false
 }
 
-// plain makes a form without labels. It stops as soon as there is no room for a further node, since references of references may stand for very large trees.
+// plain makes a form without labels. It leaves out all kids as soon as there is no room for a further node, since references of references may stand for very large trees.
 type plain struct {
 	labels map[string]label
 	room   int

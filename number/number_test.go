@@ -383,6 +383,10 @@ func TestP5_1Integers(t *testing.T) {
 	if x, e := Lcm([]api.Form{half, odd}); e != api.OK || len(x.Text) != 19729 {
 		t.Errorf("a long Lcm: %v", e)
 	}
+	above, _ := Add(half, whole("1"))
+	if got := shown(Lcm([]api.Form{half, above})); got != errLarge {
+		t.Errorf("an Lcm that is just too long: %.20s", got)
+	}
 	if got := shown(Lcm([]api.Form{half, odd, whole("3"), whole("7")})); got != errLarge {
 		t.Errorf("an Lcm that is too long: %.20s", got)
 	}

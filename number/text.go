@@ -60,7 +60,8 @@ func (r *reader) exponent() (letter string, ok bool) {
 	letter = strings.ToLower(r.rest[:1])
 	r.rest = r.rest[1:]
 	r.sign()
-	return letter, strings.Contains("sfdle", letter) && r.digits() > 0 && r.rest == ""
+	digits := r.digits()
+	return letter, strings.Contains("sfdle", letter) && digits > 0 && r.rest == ""
 }
 
 func readFloat(text string, isDouble bool) (api.Form, api.Errno) {
