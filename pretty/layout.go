@@ -7,13 +7,11 @@ import (
 
 	"commonform/api"
 	"commonform/forms"
+	"commonform/notation"
 	"commonform/printer"
 )
 
-const (
-	commonLisp = "COMMON-LISP"
-	readerHome = "READER"
-)
+const commonLisp = "COMMON-LISP"
 
 const (
 	maxStyles = 100
@@ -81,7 +79,7 @@ func (l layout) form(f api.Form, level, depth int) []Op {
 	case api.FormRef:
 		return []Op{text("#" + f.Text + "#")}
 	case api.FormCons:
-		if prefix, change := l.abbreviation(f, depth); prefix != "" {
+		if prefix, change := notation.Abbreviation(f, depth); l.Abbrev && prefix != "" {
 			return l.abbreviated(prefix, f.Kids[1], level, depth+change)
 		}
 		return l.list("", "(", level, l.cons(f, level+1, depth))
@@ -96,26 +94,6 @@ func (l layout) form(f api.Form, level, depth int) []Op {
 	}
 	s, _ := printer.Print(l.Options, f)
 	return []Op{text(s)}
-}
-
-// abbreviation returns the characters in front of an abbreviated list, and how the depth of backquotes changes in it; no characters if it is not abbreviated.
-func (l layout) abbreviation(f api.Form, depth int) (string, int) {
-	if !l.Abbrev || len(f.Kids) != 3 || !forms.IsNil(f.Kids[2]) {
-		return "", 0
-	}
-	switch first := f.Kids[0]; {
-	case forms.Is(first, commonLisp, "QUOTE"):
-		return "'", 0
-	case forms.Is(first, commonLisp, "FUNCTION"):
-		return "#'", 0
-	case forms.Is(first, readerHome, "BACKQUOTE"):
-		return "`", 1
-	case depth > 0 && forms.Is(first, readerHome, "COMMA"):
-		return ",", -1
-	case depth > 0 && forms.Is(first, readerHome, "SPLICE"):
-		return ",@", -1
-	}
-	return "", 0
 }
 
 func (l layout) abbreviated(prefix string, f api.Form, level, depth int) []Op {
@@ -222,11 +200,7 @@ func (l layout) elements(kids []api.Form, level, depth int) content {
 }
 
 func (l layout) array(f api.Form, level, depth int) []Op {
-	var dimensions []int
-	for _, s := range strings.Fields(f.Text) {
-		d, _ := strconv.Atoi(s)
-		dimensions = append(dimensions, d)
-	}
+	dimensions := notation.Dimensions(f.Text)
 	sigil := "#" + strconv.Itoa(len(dimensions)) + "A"
 	if len(dimensions) == 0 {
 		return append([]Op{text(sigil)}, l.form(f.Kids[0], level, depth)...)

@@ -9,6 +9,7 @@ import (
 
 	"commonform/api"
 	"commonform/forms"
+	"commonform/notation"
 	"commonform/number"
 	"commonform/token"
 )
@@ -85,7 +86,7 @@ kinds:
 	case api.FormRef:
 		w.put("#" + f.Text + "#")
 	case api.FormCons:
-		if prefix, change := w.abbreviation(f, depth); prefix != "" {
+		if prefix, change := notation.Abbreviation(f, depth); w.Abbrev && prefix != "" {
 			w.abbreviated(prefix, f.Kids[1], level, depth+change)
 			break kinds
 		}
@@ -113,26 +114,6 @@ func (w *writer) atom(f api.Form) (string, api.Errno) {
 		return w.text(f.Text)
 	}
 	return number.Print(f, w.Base, w.Radix, w.Double)
-}
-
-// abbreviation returns the characters in front of an abbreviated list, and how the depth of backquotes changes in it; no characters if it is not abbreviated.
-func (w *writer) abbreviation(f api.Form, depth int) (string, int) {
-	if !w.Abbrev || len(f.Kids) != 3 || !forms.IsNil(f.Kids[2]) {
-		return "", 0
-	}
-	switch first := f.Kids[0]; {
-	case forms.Is(first, commonLisp, "QUOTE"):
-		return "'", 0
-	case forms.Is(first, commonLisp, "FUNCTION"):
-		return "#'", 0
-	case forms.Is(first, readerHome, "BACKQUOTE"):
-		return "`", 1
-	case depth > 0 && forms.Is(first, readerHome, "COMMA"):
-		return ",", -1
-	case depth > 0 && forms.Is(first, readerHome, "SPLICE"):
-		return ",@", -1
-	}
-	return "", 0
 }
 
 func (w *writer) abbreviated(prefix string, f api.Form, level, depth int) {
@@ -229,7 +210,7 @@ func (w *writer) array(f api.Form, level, depth int) {
 		w.parts("#(", level, w.elements(f.Kids, level+1, depth), nothing)
 		return
 	}
-	dimensions := dimensionsOf(f.Text)
+	dimensions := notation.Dimensions(f.Text)
 	if w.Readable && isHidden(dimensions) {
 		panic(ErrReadable)
 	}
@@ -239,16 +220,6 @@ func (w *writer) array(f api.Form, level, depth int) {
 		return
 	}
 	w.parts("(", level, w.rows(f.Kids, dimensions, level+1, depth), nothing)
-}
-
-// dimensionsOf returns the dimensions of an array. (Layer 1 does not, for a part of a form with references.)
-func dimensionsOf(text string) []int {
-	var out []int
-	for _, s := range strings.Fields(text) {
-		d, _ := strconv.Atoi(s)
-		out = append(out, d)
-	}
-	return out
 }
 
 // isHidden reports whether contents do not tell all dimensions: those behind a 0 are not seen.

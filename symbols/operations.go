@@ -30,33 +30,39 @@ func (t *Table) Find(pack, name string) (symbol, status int, e api.Errno) {
 	return symbol, status, api.OK
 }
 
-// Export makes a symbol external.
-func (t *Table) Export(pack string, symbol int) api.Errno {
-	p, s, e := t.findBoth(pack, symbol)
+// findAccessible returns the package that a text means; ErrAccess if a symbol is not accessible there.
+func (t *Table) findAccessible(name string, symbol int) (*pack, api.Errno) {
+	p, s, e := t.findBoth(name, symbol)
 	if e != api.OK {
-		return e
+		return nil, e
 	}
 	if n, _ := t.accessible(p, s.name); n != symbol {
-		return ErrAccess
+		return nil, ErrAccess
+	}
+	return p, api.OK
+}
+
+// Export makes a symbol external.
+func (t *Table) Export(pack string, symbol int) api.Errno {
+	p, e := t.findAccessible(pack, symbol)
+	if e != api.OK {
+		return e
 	}
 	for q := range t.users(p) {
 		if t.clashes(q)(symbol) {
 			return ErrClash
 		}
 	}
-	p.present[s.name] = symbol
+	p.present[t.symbols[symbol].name] = symbol
 	p.external[symbol] = true
 	return api.OK
 }
 
 // Unexport makes a symbol internal.
 func (t *Table) Unexport(pack string, symbol int) api.Errno {
-	p, s, e := t.findBoth(pack, symbol)
+	p, e := t.findAccessible(pack, symbol)
 	if e != api.OK {
 		return e
-	}
-	if n, _ := t.accessible(p, s.name); n != symbol {
-		return ErrAccess
 	}
 	if p.name == keyword {
 		return api.ErrArg

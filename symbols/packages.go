@@ -96,11 +96,7 @@ func (t *Table) Delete(pack string) api.Errno {
 
 // Use makes a package use another one.
 func (t *Table) Use(pack, other string) api.Errno {
-	p, e := t.find(pack, other)
-	if e != api.OK {
-		return e
-	}
-	q, e := t.find(other)
+	p, q, e := t.findTwo(pack, other)
 	if e != api.OK {
 		return e
 	}
@@ -119,11 +115,7 @@ func (t *Table) Use(pack, other string) api.Errno {
 
 // Unuse ends it.
 func (t *Table) Unuse(pack, other string) api.Errno {
-	p, e := t.find(pack, other)
-	if e != api.OK {
-		return e
-	}
-	q, e := t.find(other)
+	p, q, e := t.findTwo(pack, other)
 	if e != api.OK {
 		return e
 	}
