@@ -87,10 +87,12 @@ func (l layout) form(f api.Form, level, depth int) []Op {
 		if l.Array {
 			return l.list("", "#(", level, l.elements(f.Kids, level+1, depth))
 		}
+		f.Kids = nil // which may refer to labels around them, and are not written
 	case api.FormArray:
 		if l.Array {
 			return l.array(f, level, depth)
 		}
+		f.Text, f.Kids = "0 0", nil
 	}
 	s, _ := printer.Print(l.Options, f)
 	return []Op{text(s)}
