@@ -167,6 +167,7 @@ func TestP9_1Render(t *testing.T) {
 func TestP9_1Large(t *testing.T) {
 	tabs := slices.Repeat([]pretty.Op{tabHere(100, 0)}, 1000)
 	prefix := ops(lines(strings.Repeat("x", 10000)), slices.Repeat([]pretty.Op{newline(mandatory)}, 3990), end(""))
+	exact := ops(lines(strings.Repeat("x", 9999)), slices.Repeat([]pretty.Op{newline(mandatory)}, 9), "a")
 	indents := slices.Repeat(ops(indentHere(100), newline(mandatory)), 1999)
 	for i, x := range []struct {
 		l            []pretty.Op
@@ -174,7 +175,7 @@ func TestP9_1Large(t *testing.T) {
 		length       int
 	}{
 		{tabs, api.OK, api.OK, 100000}, {ops(tabs, " "), api.ErrLarge, api.ErrLarge, 0}, {ops(tabs, tabs, tabs, "a"), api.ErrLarge, api.ErrLarge, 0}, {ops(tabs, tabs, newline(mandatory), "a"), api.ErrLarge, api.OK, 2}, {ops(tabs, tabs[:900], newline(mandatory), tabs, tabs[:900], newline(mandatory), "a"), api.ErrLarge, api.OK, 3},
-		{prefix, api.OK, api.ErrLarge, 0}, {indents, api.OK, api.ErrLarge, 0}, {ops(indents[:500], newline(mandatory)), api.OK, api.OK, 251 + 25000}, {ops("a", tabs), api.ErrLarge, api.ErrLarge, 0},
+		{prefix, api.OK, api.ErrLarge, 0}, {ops(exact, end("")), api.OK, api.OK, 100000}, {ops(exact, "b", end("")), api.OK, api.ErrLarge, 0}, {ops(exact, tab(0, 1), end("")), api.OK, api.ErrLarge, 0}, {ops(exact, tab(0, 1), newline(mandatory), end("")), api.OK, api.ErrLarge, 0}, {indents, api.OK, api.ErrLarge, 0}, {ops(indents[:500], newline(mandatory)), api.OK, api.OK, 251 + 25000}, {ops("a", tabs), api.ErrLarge, api.ErrLarge, 0},
 	} {
 		if s, e := pretty.Flat(x.l); e != x.flat || e != api.OK && s != "" {
 			t.Errorf("%d: Flat has %d bytes, %v, not %v", i, len(s), e, x.flat)

@@ -337,7 +337,7 @@ func TestP8_1Lines(t *testing.T) {
 		e    api.Errno
 	}{
 		{nil, "", api.OK}, {[]api.Form{a}, "a\n", api.OK}, {[]api.Form{a, list(a)}, "a\n(a)\n", api.OK}, {[]api.Form{a, {}, user(strings.Repeat("A", 4001))}, "", api.ErrForm},
-		{[]api.Form{large, large}, strings.Repeat(`"`+large.Text+"\"\n", 2), api.OK}, {[]api.Form{large, large, a}, "", api.ErrLarge}, {[]api.Form{large, large, large, {}}, "", api.ErrForm},
+		{[]api.Form{large, large}, strings.Repeat(`"`+large.Text+"\"\n", 2), api.OK}, {[]api.Form{large, large, a}, "", api.ErrLarge}, {[]api.Form{large, leaf(api.FormString, large.Text+"a")}, "", api.ErrLarge}, {[]api.Form{large, large, large, {}}, "", api.ErrForm},
 	} {
 		if got, e := printer.Lines(usual(), x.l); got != x.want || e != x.e {
 			t.Errorf("Lines(%d) = %.20q, %v, not %.20q, %v", i, got, e, x.want, x.e)

@@ -108,12 +108,9 @@ func Array(rank int, contents api.Form) (api.Form, api.Errno) {
 	if count > api.MaxForm {
 		return api.Form{}, api.ErrSize
 	}
-	f := api.Form{Kind: api.FormVector}
+	f := api.Form{Kind: api.FormVector, Kids: leaves(contents, rank)}
 	if rank != 1 {
 		f.Kind, f.Text = api.FormArray, strings.Join(numerals(dimensions), " ")
-	}
-	for x := range leaves(contents, rank) {
-		f.Kids = append(f.Kids, copied(x))
 	}
 	return f, api.OK
 }
@@ -170,20 +167,15 @@ func dimensionsOf(f api.Form, rank int) ([]int, bool) {
 	return append([]int{count}, inner...), true
 }
 
-// leaves comes to the elements of contents of a rank in row-major order.
-func leaves(f api.Form, rank int) iter.Seq[api.Form] {
-	return func(yield func(api.Form) bool) { visit(f, rank, yield) }
-}
-
-func visit(f api.Form, rank int, yield func(api.Form) bool) bool {
+// leaves returns the elements of contents of a rank in row-major order.
+func leaves(f api.Form, rank int) []api.Form {
 	if rank == 0 {
-		return yield(f)
+		return []api.Form{copied(f)}
 	}
+	var out []api.Form
 	l, _ := elements(f)
 	for x := range l {
-		if !visit(x, rank-1, yield) {
-			return false
-		}
+		out = append(out, leaves(x, rank-1)...)
 	}
-	return true
+	return out
 }

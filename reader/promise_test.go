@@ -500,6 +500,12 @@ func TestP7_1Backquote(t *testing.T) {
 	for i := range wide {
 		wide[i] = a
 	}
+	// the list of n symbols makes 7 n + 7 nodes, a comma 4 and a splice 1 of them
+	exact := append(slices.Clone(wide[:284]), mark("COMMA", a), mark("SPLICE", a))
+	inner := a
+	for range 48 { // of the depth 2 n + 2, a vector one more
+		inner = list(inner)
+	}
 	deep := a
 	for range 98 {
 		deep = list(deep)
@@ -507,7 +513,7 @@ func TestP7_1Backquote(t *testing.T) {
 	for _, x := range []struct {
 		f api.Form
 		e api.Errno
-	}{{forms.List(wide), api.ErrSize}, {forms.List(wide[:250]), api.OK}, {deep, api.ErrSize}, {mark("COMMA", deep), api.OK}, {forms.List(make([]api.Form, 2000)), api.ErrSize}} {
+	}{{forms.List(wide), api.ErrSize}, {forms.List(exact), api.OK}, {forms.List(append(exact, mark("SPLICE", a))), api.ErrSize}, {list(inner), api.OK}, {list(list(inner)), api.ErrSize}, {api.Form{Kind: api.FormVector, Kids: []api.Form{inner}}, api.ErrSize}, {deep, api.ErrSize}, {mark("COMMA", deep), api.OK}, {forms.List(make([]api.Form, 2000)), api.ErrSize}} {
 		if _, e := Backquote(x.f); e != x.e {
 			t.Errorf("Backquote of a large form: %v, not %v", e, x.e)
 		}

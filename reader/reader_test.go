@@ -167,7 +167,7 @@ func TestP7_1Errors(t *testing.T) {
 		{"(a ..)", 3, token.ErrDots}, {".", 0, token.ErrDots}, {"(a . . b)", 5, token.ErrDots}, {"'.", 1, token.ErrDots}, {"(a '. b)", 4, token.ErrDots},
 		{"(a :)", 3, token.ErrMarker}, {"#:a:b", 0, token.ErrMarker}, {" #: ", -1, api.OK}, {"(#::a)", 1, token.ErrMarker},
 		{")", 0, ErrClose}, {"')", 1, ErrClose}, {"(a . )", 5, ErrClose}, {"(')", 2, ErrClose}, {"#'  )", 4, ErrClose}, {"(a . ;\n)", 7, ErrClose}, {"(a . #-small b )", 15, ErrClose},
-		{",a", 0, ErrComma}, {"(a ,b)", 3, ErrComma}, {"`(,a ,(,b))", 7, ErrComma}, {"`a ,b", -1, api.OK}, {"`,,a", 2, ErrComma}, {"`(,@(,a))", 5, ErrComma},
+		{",a", 0, ErrComma}, {"(a ,b)", 3, ErrComma}, {"`(,a ,(,b))", 7, ErrComma}, {"`a ,b", -1, api.OK}, {"`,,a", 2, ErrComma}, {"(`a ,b)", 4, ErrComma}, {"`(,@(,a))", 5, ErrComma},
 		{"(. a)", 1, ErrDot}, {"( . )", 2, ErrDot}, {"(a . b c)", 3, ErrDot}, {"(a . b . c)", 3, ErrDot}, {"(a . b #-small c)", 3, ErrDot}, {"(#-small a . b)", 11, ErrDot}, {"#(a . b)", 4, ErrDot}, {"#(.)", 2, ErrDot}, {"(a . b #|", 9, api.ErrEnd}, {"(a . b ;", 8, api.ErrEnd},
 		{"#<", 0, ErrHash}, {"# a", 0, ErrHash}, {"#)", 0, ErrHash}, {"(a #é)", 3, ErrHash}, {"#1234(a)", 0, ErrHash}, {"#0000", 0, ErrHash}, {"#2'x", 0, ErrHash}, {"#2\\x", 0, ErrHash}, {"#2:x", 0, ErrHash}, {"#2b1", 0, ErrHash}, {"#2o1", 0, ErrHash}, {"#2x1", 0, ErrHash},
 		{"#2c(1 2)", 0, ErrHash}, {"#2|x|#", 0, ErrHash}, {"#2+a b", 0, ErrHash}, {"#2-a b", 0, ErrHash}, {"#a(1)", 0, ErrHash}, {"#=a", 0, ErrHash}, {"##", 0, ErrHash}, {"#r1", 0, ErrHash}, {"#1r1", 0, ErrHash}, {"#37r1", 0, ErrHash}, {"#0r1", 0, ErrHash}, {"#37r", 0, ErrHash},
@@ -272,7 +272,7 @@ func TestP7_1Options(t *testing.T) {
 		{Options{Table: token.Table{Case: 4}}, api.ErrArg}, {Options{Table: token.Table{Entries: make([]token.Entry, 65)}}, api.ErrSize},
 		{Options{Base: 1, Package: long}, api.ErrArg}, {Options{Base: 37, Package: long}, api.ErrArg}, {Options{Base: 10, Features: many}, api.ErrArg},
 		{Options{Base: 10, Package: bad, Features: many}, api.ErrSize}, {Options{Base: 10, Package: long + bad}, api.ErrSize}, {Options{Base: 10, Package: bad, Features: []string{"a", long}}, api.ErrSize},
-		{Options{Base: 10, Package: bad, Features: []string{"a", ""}}, api.ErrArg}, {Options{Base: 10, Package: bad, Features: []string{"a"}}, api.ErrForm}, {Options{Base: 10, Package: "A", Features: []string{"a", bad}}, api.ErrForm},
+		{Options{Base: 10, Package: bad, Features: []string{"a", ""}}, api.ErrArg}, {Options{Base: 10, Package: bad, Features: []string{"a"}}, api.ErrForm}, {Options{Base: 10, Package: "A", Features: []string{"a", bad}}, api.ErrForm}, {Options{Base: 10, Package: "A", Features: []string{"", long}}, api.ErrArg}, {Options{Base: 10, Package: "A", Features: []string{bad, long}}, api.ErrForm}, {Options{Base: 10, Package: "A", Features: []string{long + bad, ""}}, api.ErrSize},
 	} {
 		if e := Check(x.o); e != x.e {
 			t.Errorf("Check(%.60v) = %v, not %v", x.o, e, x.e)
@@ -352,7 +352,7 @@ func TestP7_1Sizes(t *testing.T) {
 		at int
 		e  api.Errno
 	}{
-		{"(" + many + ")", 0, api.OK}, {";\n(" + many + " a b c)", 2, api.ErrSize}, {";\n(" + many + " a b)", 0, api.OK}, {"#999(#999(#999(1)))", 0, api.ErrSize}, {"#2(#999(1))", 0, api.ErrSize}, {"(#999(1) #999(1))", 0, api.ErrSize}, {"(#999(1) #998(1))", 0, api.ErrSize}, {"(#999(1) #997(1))", 0, api.OK},
+		{"(" + many + ")", 0, api.OK}, {";\n(" + many + " a b c)", 2, api.ErrSize}, {";\n(" + many + " a b)", 0, api.OK}, {"#999(#999(#999(1)))", 0, api.ErrSize}, {"#2(#999(1))", 0, api.ErrSize}, {"#999((a) #1(b))", 0, api.OK}, {"#999(a #2(b))", 0, api.ErrSize}, {"(#999(1) #999(1))", 0, api.ErrSize}, {"(#999(1) #998(1))", 0, api.ErrSize}, {"(#999(1) #997(1))", 0, api.OK},
 		{"(#-small #999(#999(1)) a)", 0, api.OK}, {"#c#999(#999(1))", 0, api.ErrForm}, {"(#+#999(#999(1)) a)", 1, api.ErrForm}, {" #1a#999(#999(1))", 1, api.ErrSize}, {"(#999(#1=a #999(#999(1))))", 0, api.ErrSize},
 		{"#2(#999(#1=a #999(#999(1))))", 0, ErrShape}, {"#999(a #1=a)", 0, ErrShape}, {strings.Repeat("#999(", 90) + "1" + strings.Repeat(")", 90), 0, api.ErrSize}, {"#2a(\"" + strings.Repeat("x", 2001) + "\")", 0, api.ErrSize}, {"#1a\"" + strings.Repeat("x", 2001) + "\"", 0, api.ErrSize},
 		{"#1a\"" + strings.Repeat("x", 2000) + "\"", 0, api.ErrSize}, {"#1a\"" + strings.Repeat("x", 1999) + "\"", 0, api.OK}, {"#2a(" + strings.Repeat("\""+strings.Repeat("x", 50)+"\"", 41) + ")", 0, api.ErrSize},

@@ -78,76 +78,55 @@ func Parse(s string) (*Table, api.Errno) {
 	if len(s) > maxText {
 		return nil, api.ErrSize
 	}
-	// What is read more freely than Text writes it is told by the text, and nothing else.
-	t, ok := parse(s)
-	if !ok || !t.isRight() || t.Text() != s {
+	t := parse(s)
+	if !t.isRight() || t.Text() != s {
 		return nil, api.ErrForm
 	}
 	return t, api.OK
 }
 
-// parse reads the lines of a text.
-func parse(s string) (*Table, bool) {
+// parse reads the lines of a text. It leaves out what does not fit: then the text of the table is another one.
+func parse(s string) *Table {
 	t := &Table{packages: map[string]*pack{}}
 	for row := range strings.Lines(s) {
-		words := strings.Fields(row)
-		ok := false
-		switch {
-		case len(words) == 3 && words[0] == "symbol":
-			ok = t.parseSymbol(words[1:])
-		case len(words) == 7 && words[0] == "package":
-			ok = t.parsePackage(words[1:])
-		}
-		if !ok {
-			return nil, false
+		switch words := strings.Fields(row); len(words) {
+		case 3:
+			t.symbols = append(t.symbols, symbol{parseName(words[1]), strings.Join(parseNames(words[2]), "")})
+		case 7:
+			t.parsePackage(words[1:])
 		}
 	}
-	return t, true
+	return t
 }
 
-func (t *Table) parseSymbol(words []string) bool {
-	name, ok := parseName(words[0])
-	homes, also := parseNames(words[1])
-	t.symbols = append(t.symbols, symbol{name, strings.Join(homes, "")})
-	return ok && also && len(homes) <= 1
-}
-
-func (t *Table) parsePackage(words []string) bool {
-	name, isName := parseName(words[0])
-	nicknames, areNicknames := parseNames(words[1])
-	uses, areUses := parseNames(words[2])
-	p := newPack(name, nicknames, uses)
-	if !isName || !areNicknames || !areUses || t.isTaken(append([]string{name}, nicknames...)) {
-		return false
+func (t *Table) parsePackage(words []string) {
+	p := newPack(parseName(words[0]), parseNames(words[1]), parseNames(words[2]))
+	if t.isTaken(append([]string{p.name}, p.nicknames...)) {
+		return
 	}
 	t.add(p)
-	internal := map[int]bool{}
-	return t.parsePresent(p, words[3], internal) && t.parsePresent(p, words[4], p.external) && t.parseShadowing(p, words[5])
+	t.parsePresent(p, words[3])
+	for _, n := range t.parsePresent(p, words[4]) {
+		p.external[n] = true
+	}
+	for _, n := range t.parseNumbers(words[5]) {
+		if p.isPresent(n, t.symbols[n].name) {
+			p.shadowing[n] = true
+		}
+	}
 }
 
-// parsePresent reads numbers of symbols of a package, which are put into a set, too.
-func (t *Table) parsePresent(p *pack, s string, set map[int]bool) bool {
-	numbers, ok := t.parseNumbers(s)
-	for _, n := range numbers {
+// parsePresent reads numbers of symbols. It makes those whose names are new in a package present, and returns them.
+func (t *Table) parsePresent(p *pack, s string) []int {
+	var out []int
+	for _, n := range t.parseNumbers(s) {
 		name := t.symbols[n].name
-		if _, isThere := p.present[name]; isThere {
-			return false
+		if _, isThere := p.present[name]; !isThere {
+			p.present[name] = n
+			out = append(out, n)
 		}
-		p.present[name] = n
-		set[n] = true
 	}
-	return ok
-}
-
-func (t *Table) parseShadowing(p *pack, s string) bool {
-	numbers, ok := t.parseNumbers(s)
-	for _, n := range numbers {
-		if !p.isPresent(n, t.symbols[n].name) {
-			return false
-		}
-		p.shadowing[n] = true
-	}
-	return ok
+	return out
 }
 
 func (p *pack) isPresent(number int, name string) bool {
@@ -164,45 +143,36 @@ func items(s string) []string {
 }
 
 // parseNumbers returns numbers of symbols.
-func (t *Table) parseNumbers(s string) ([]int, bool) {
+func (t *Table) parseNumbers(s string) []int {
 	var out []int
 	for _, word := range items(s) {
-		n, err := strconv.Atoi(word)
-		if err != nil || !t.isSymbol(n) {
-			return nil, false
+		if n, err := strconv.Atoi(word); err == nil && t.isSymbol(n) {
+			out = append(out, n)
 		}
-		out = append(out, n)
 	}
-	return out, true
+	return out
 }
 
-func parseNames(s string) ([]string, bool) {
+func parseNames(s string) []string {
 	var out []string
 	for _, word := range items(s) {
-		name, ok := parseName(word)
-		if !ok {
-			return nil, false
-		}
-		out = append(out, name)
+		out = append(out, parseName(word))
 	}
-	return out, true
+	return out
 }
 
-// parseName reads a name, which may not be too long.
-func parseName(s string) (string, bool) {
-	hex, ok := strings.CutPrefix(s, "x")
-	if !ok || len(hex)%2 != 0 || len(hex) > 2*api.MaxName {
-		return "", false
+// parseName returns a name; the empty one for what is none, or too long.
+func parseName(s string) string {
+	hex, _ := strings.CutPrefix(s, "x")
+	if len(hex)%2 != 0 || len(hex) > 2*api.MaxName {
+		return ""
 	}
 	var out []byte
 	for i := 0; i < len(hex); i += 2 {
-		b, err := strconv.ParseUint(hex[i:i+2], 16, 8)
-		if err != nil {
-			return "", false
-		}
+		b, _ := strconv.ParseUint(hex[i:i+2], 16, 8)
 		out = append(out, byte(b))
 	}
-	return string(out), true
+	return string(out)
 }
 
 // isRight reports whether a table that was read is right, as far as reading does not tell.

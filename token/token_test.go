@@ -152,8 +152,12 @@ func TestP6_1Tables(t *testing.T) {
 	if kind, e := token.Kind(full, 'c'); kind != token.Single || e != api.OK {
 		t.Errorf("Kind = %d, %v", kind, e)
 	}
-	if _, e := token.Kind(full, 0xd900); e != api.ErrArg {
-		t.Errorf("Kind of no character: %v", e)
+	if kind, e := token.Kind(full, 0xd900); kind != 0 || e != api.ErrArg {
+		t.Errorf("Kind of no character: %d, %v", kind, e)
+	}
+	null := token.Table{Entries: []token.Entry{{Char: 0, Kind: token.White}}}
+	if kind, e := token.Kind(null, 0); kind != token.White || e != api.OK {
+		t.Errorf("Kind of the character 0: %d, %v", kind, e)
 	}
 }
 
@@ -472,7 +476,7 @@ func TestP6_1Split(t *testing.T) {
 		{":a", token.Name{Kind: token.Keyword, Name: "a"}, api.OK},
 		{"a:b", token.Name{Kind: token.External, Package: "a", Name: "b"}, api.OK},
 		{"a::b", token.Name{Kind: token.Internal, Package: "a", Name: "b"}, api.OK},
-		{"...", token.Name{}, token.ErrDots}, {".:", token.Name{}, token.ErrMarker}, {":", token.Name{}, token.ErrMarker}, {"::", token.Name{}, token.ErrMarker},
+		{"...", token.Name{}, token.ErrDots}, {".", token.Name{}, token.ErrDots}, {".:", token.Name{}, token.ErrMarker}, {":", token.Name{}, token.ErrMarker}, {"::", token.Name{}, token.ErrMarker},
 		{"::a", token.Name{}, token.ErrMarker}, {"a::", token.Name{}, token.ErrMarker}, {"a:", token.Name{}, token.ErrMarker},
 		{"a:b:c", token.Name{}, token.ErrMarker}, {":a:", token.Name{}, token.ErrMarker}, {"a:::b", token.Name{}, token.ErrMarker}, {"a:b::c", token.Name{}, token.ErrMarker},
 	} {

@@ -83,8 +83,8 @@ func Escaped(t Table, name string, base int) (string, api.Errno) {
 
 // isBare reports whether a text is read as a name, and as nothing else, without an escape.
 func (t Table) isBare(s, name string, base int) bool {
-	x, end, e := Next(t, s, 0)
-	if e != api.OK || end != len(s) || x.Escapes || string(x.Chars) != name {
+	x, _, e := Next(t, s, 0)
+	if e != api.OK || string(x.Chars) != name { // which has as many characters: so the token ends at the end, and none is an escape
 		return false
 	}
 	return len(x.markers()) == 0 && Dots(x) == 0 && !isPotential(x.Chars, base)
@@ -178,8 +178,8 @@ func (t Table) hasMarker(kind int) bool {
 
 // isRead reports whether a text is read as a symbol.
 func (t Table) isRead(s string, n Name) bool {
-	x, end, e := Next(t, s, 0)
-	if e != api.OK || end != len(s) {
+	x, _, e := Next(t, s, 0)
+	if e != api.OK {
 		return false
 	}
 	got, e := Split(x)
