@@ -117,10 +117,10 @@ func (w *writer) atom(f api.Form) (string, api.Errno) {
 }
 
 func (w *writer) abbreviated(prefix string, f api.Form, level, depth int) {
-	if s, _ := w.atom(f); prefix == "," && strings.HasPrefix(s, "@") {
-		prefix = ", " // the @ would belong to the comma
-	}
 	w.put(prefix)
+	if s, _ := w.atom(f); prefix == "," && strings.HasPrefix(s, "@") {
+		w.put(" ") // else the @ would belong to the comma
+	}
 	w.form(f, level, depth)
 }
 

@@ -37,10 +37,12 @@ func (t *Table) Make(name string, nicknames, uses []string) api.Errno {
 
 // isTaken reports whether one of some names means a package, or stands twice.
 func (t *Table) isTaken(names []string) bool {
-	for i, s := range names {
-		if t.packages[s] != nil || slices.Contains(names[:i], s) {
+	seen := map[string]bool{}
+	for _, s := range names {
+		if t.packages[s] != nil || seen[s] {
 			return true
 		}
+		seen[s] = true
 	}
 	return false
 }
