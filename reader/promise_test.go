@@ -639,6 +639,45 @@ func TestP7_1AnyArguments(t *testing.T) {
 	}
 }
 
+func TestP7_4AnyTables(t *testing.T) {
+	r := source(8)
+	const chars = "ab1.:|\\\"'()`,@#;+-=*x \n\x01é!"
+	l := []rune(chars)
+	sorted := slices.Sorted(slices.Values(l))
+	for range 10 * runs {
+		o := usual()
+		o.Table.Case = r.IntN(4)
+		for _, c := range sorted {
+			if kind := r.IntN(7); r.IntN(6) == 0 && kind != token.Standard(c) {
+				o.Table.Entries = append(o.Table.Entries, token.Entry{Char: c, Kind: kind})
+			}
+		}
+		s := ""
+		for range r.IntN(20) {
+			s += string(l[r.IntN(len(l))])
+		}
+		x, at, e := Read(o, s, 0)
+		if e == api.OK {
+			checkForm(t, s, x)
+			if y, _, e := Read(o, s[:x.To], x.From); e != api.OK || !sameResult(x, y) {
+				t.Fatalf("Read(%v, %q) is another form from %d to %d: %v", o.Table, s, x.From, x.To, e)
+			}
+		} else if at < 0 || at > len(s) || !sameResult(x, Result{}) {
+			t.Fatalf("Read(%v, %q): %d, %v", o.Table, s, at, e)
+		}
+		next, at, e := Blank(o, s, 0)
+		if e == api.OK && (at != 0 || next > len(s)) || e != api.OK && (e != api.ErrEnd || at != len(s) || next != 0) {
+			t.Fatalf("Blank(%v, %q): %d, %d, %v", o.Table, s, next, at, e)
+		}
+		all, at, e := All(o, s)
+		one, place, f := One(o, s)
+		isOne := f == api.OK && sameResult(one, x)
+		if e == api.OK && (len(all) == 1) != isOne || e != api.OK && f == api.OK || f == api.ErrTwice && len(all) > 1 && place != all[1].From || at > len(s) {
+			t.Fatalf("All(%v, %q): %d forms, %d, %v; One: %d, %v", o.Table, s, len(all), at, e, place, f)
+		}
+	}
+}
+
 func TestP7_1Memory(t *testing.T) {
 	o := usual()
 	o.Table.Entries = []token.Entry{{Char: '!', Kind: token.White}}
