@@ -152,6 +152,10 @@ func TestP9_1Render(t *testing.T) {
 		{ops(open("("), "a ", indent(2), newline(mandatory), "b ", indent(-9), newline(mandatory), "c", end(")")), 99, 0, "(a\n   b\nc)"}, {ops(open("("), "aaa ", indentHere(0), "b ", newline(mandatory), "c", end(")")), 99, 0, "(aaa b\n     c)"}, {ops(open("("), "aaa ", indentHere(-1), "b ", newline(mandatory), "c", end(")")), 99, 0, "(aaa b\n    c)"}, {ops(open("("), "aaa ", indentHere(5), "b ", newline(mandatory), "c", end(")")), 10, 9, "(aaa b\n c)"}, {ops(open("("), "aaa ", indent(1), "b ", newline(mandatory), "c", end(")")), 10, 8, "(aaa b\n  c)"}, {ops("aaa ", indent(2), newline(mandatory), "b", indentHere(-100), newline(mandatory), "c"), 10, 0, "aaa\n  b\nc"}, {ops("a", indent(5), newline(mandatory), "b"), 10, 10, "a\nb"},
 		// prefixes of each line
 		{ops(lines("; "), "a", newline(mandatory), newline(mandatory), "b", end("")), 99, 0, "; a\n;\n; b"}, {ops("x ", lines("> "), "a ", open("("), "b ", newline(mandatory), lines("| "), "c", newline(mandatory), "d", end("!"), newline(mandatory), "e", end(")"), newline(mandatory), "f", end(".")), 99, 0, "x > a (b\n  >    | c\n  >    | d!\n  >    e)\n  > f."}, {ops(lines("; "), "a", indent(-2), newline(mandatory), "b", end("")), 99, 0, "; a\n; b"}, {ops(lines("; "), "a\nb", lines("-"), "c", newline(mandatory), "d", end(""), end("")), 99, 0, "; a\nb-c\n; -d"}, {ops(lines(""), "a", newline(mandatory), "b", end("")), 99, 0, "a\nb"},
+		// an empty prefix of each line has its column, too
+		{ops("ab", lines(""), indent(-2), "c", newline(mandatory), "d", end("")), 10, 0, "abc\n  d"}, {ops(open(" "), lines(""), open(""), "\n", open(""), newline(linear), end(""), end(""), end(""), end("")), 1, 0, " \n\n "}, {ops("ab", open(""), indent(-2), "c", newline(mandatory), "d", end("")), 10, 0, "abc\nd"},
+		{ops("ab", lines(""), open("("), indent(-9), "c", newline(mandatory), "d", end(")"), newline(mandatory), "e", end(""), newline(mandatory), "f"), 10, 0, "ab(c\n  d)\n  e\nf"}, {ops("a", lines(""), "b", lines("; "), "c", indent(-9), newline(mandatory), "d", end(""), end("")), 10, 0, "ab; c\n  ; d"}, {ops("a", lines("; "), "b", lines(""), "c", indent(-9), newline(mandatory), "d", end(""), end("")), 10, 0, "a; bc\n ;  d"}, {ops("abcd\n", lines(""), "e", lines(""), indent(-9), newline(mandatory), "f", end(""), end("")), 10, 0, "abcd\ne\n f"},
+		{ops("ab", lines(""), indent(-2), "c", newline(mandatory), newline(mandatory), "d", end("")), 10, 0, "abc\n\n  d"}, {ops("ab", lines(""), indent(-2), "cc ", newline(fill), "dd ", newline(fill), "ee", end("")), 7, 0, "abcc\n  dd ee"}, {ops("ab", lines(""), indent(1), "c", newline(mandatory), "d", end("")), 10, 0, "abc\n   d"}, {ops("é漢", lines(""), indent(-2), newline(mandatory), "d", end("")), 10, 0, "é漢\n  d"},
 		// spaces at the ends of lines
 		{ops("a  ", newline(mandatory), "  ", newline(mandatory), "b  "), 99, 0, "a\n\nb  "}, {ops("a", tab(9, 0), newline(mandatory), "b", tabHere(2, 0)), 99, 0, "a\nb  "}, {ops("a \n b ", newline(mandatory), "c"), 99, 0, "a \n b\nc"}, {ops("a\t", newline(mandatory), "c"), 99, 0, "a\t\nc"},
 		{ops("a\n", newline(mandatory), "b"), 99, 0, "a\n\nb"}, {nil, 9, 0, ""}, {ops(newline(linear), newline(fill), newline(miser)), 1, 200, ""},
@@ -266,7 +270,6 @@ func (s *slow) fits(from, to, column int) bool {
 
 type slowBlock struct {
 	start, indentation, at int
-	prefix                 string
 	isLong, isMiser        bool
 	section, column        int
 	lines                  int // line feeds ahead of the section
@@ -283,9 +286,6 @@ func (s *slow) render() string {
 		case pretty.Open:
 			n := &slowBlock{at: s.column(), isLong: !s.fits(b.section, s.end(b.section, parent), b.column)}
 			s.out += x.Text
-			if x.Flag {
-				n.prefix = x.Text
-			}
 			n.start = s.column()
 			n.indentation, n.isMiser = n.start, s.width-n.start <= s.miser
 			n.section, n.column, n.lines = i+1, n.start, strings.Count(s.out, "\n")
@@ -323,8 +323,8 @@ func (s *slow) feed(block int, blocks map[int]*slowBlock) {
 	}
 	slices.Reverse(path)
 	for _, i := range path {
-		if b := blocks[i]; b.prefix != "" {
-			s.out += strings.Repeat(" ", max(0, b.at-s.column())) + b.prefix
+		if x := s.l[i]; x.Flag {
+			s.out += strings.Repeat(" ", max(0, blocks[i].at-s.column())) + x.Text
 		}
 	}
 	s.out += strings.Repeat(" ", max(0, blocks[block].indentation-s.column()))

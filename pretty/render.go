@@ -4,8 +4,8 @@ import "commonform/api"
 
 // block is a block that was begun and has not ended.
 type block struct {
-	prefix             string // of each line
-	column             int    // at which the prefix stood in its first line
+	open               Op  // without a Flag for the outermost block
+	column             int // at which the prefix stood in its first line
 	start, indentation int
 	isLong, isMiser    bool
 	section            section // the last one so far
@@ -110,10 +110,7 @@ func (r *rendering) step(i int, x Op) {
 
 func (r *rendering) open(i int, x Op) {
 	outer := r.innermost()
-	b := block{column: r.page.column, isLong: !r.fits(outer.section)}
-	if x.Flag {
-		b.prefix = x.Text
-	}
+	b := block{open: x, column: r.page.column, isLong: !r.fits(outer.section)}
 	r.page.append(x)
 	b.start = r.page.column
 	b.indentation = b.start
@@ -148,9 +145,9 @@ func (r *rendering) isBroken(i, kind int, b *block) bool {
 func (r *rendering) breakLine(b *block) {
 	r.page.feed()
 	for _, x := range r.blocks {
-		if x.prefix != "" {
+		if x.open.Flag {
 			r.page.pad(x.column)
-			r.page.put(x.prefix)
+			r.page.put(x.open.Text)
 		}
 	}
 	r.page.pad(b.indentation)
