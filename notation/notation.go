@@ -1,4 +1,4 @@
-// Package notation has what the printers of forms share: which lists are written with characters in front of them, and the dimensions of arrays.
+// Package notation has what the layers share that write forms: which lists are written with characters in front of them, the dimensions of arrays, and which forms are right.
 package notation
 
 import (
@@ -13,6 +13,9 @@ const (
 	commonLisp = "COMMON-LISP"
 	readerHome = "READER"
 )
+
+// IsRight reports whether a form has no error of layer 1.
+func IsRight(f api.Form) bool { return forms.Check(f) == api.OK }
 
 // Abbreviation returns the characters in front of a list that may be abbreviated in a depth of backquotes, and how the depth changes behind them; no characters for all other forms.
 func Abbreviation(f api.Form, depth int) (prefix string, change int) {
