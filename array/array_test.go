@@ -117,6 +117,32 @@ func TestP11_1MakeErrors(t *testing.T) {
 	}
 }
 
+func TestP11_1Codes(t *testing.T) {
+	if ErrRank != 130 || ErrFill != 131 || ErrBits != 132 {
+		t.Error(ErrRank, ErrFill, ErrBits)
+	}
+}
+
+// With an error, numbers are 0.
+func TestP11_1Zero(t *testing.T) {
+	var none *Room
+	r := NewRoom()
+	a := made(t, r, own(2, 3), whole("0"))
+	b := made(t, r, own(3), whole("0"))
+	for i, n := range []int{
+		first(none.Make(own(1), whole("1"))), first(r.Make(own(-1), whole("1"))), first(none.Total(0)), first(r.Total(9)), first(r.Length(9)), first(r.Length(a)), first(r.Index(9, nil)), first(r.Index(a, []int{1})), first(r.Index(a, []int{1, 3})), first(r.Index(b, []int{3})), first(r.Push(9, whole("1"), 1)), first(r.Push(b, whole("1"), 1)),
+	} {
+		if n != 0 {
+			t.Errorf("%d: %d", i, n)
+		}
+	}
+	for _, l := range [][2]int{{9, 0}, {a, -1}, {a, 6}} {
+		if to, at, e := r.Where(l[0], l[1]); to != 0 || at != 0 || e == api.OK {
+			t.Errorf("Where%v = %d, %d, %v", l, to, at, e)
+		}
+	}
+}
+
 func TestP11_1MakeFull(t *testing.T) {
 	r := NewRoom()
 	for i := range 100 {

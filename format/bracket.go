@@ -77,17 +77,14 @@ func (r *run) choose(c call) end {
 	return goesOn
 }
 
-// choice returns the number of a part: a parameter or an argument. One of no part stands for numbers that are too great.
+// choice returns the number of a part: a parameter or an argument.
 func (r *run) choice(c call) int {
 	if n, ok := c.given(0); ok {
 		return n
 	}
 	x := r.args.take()
 	integerOf(x)
-	n, err := strconv.Atoi(x.Text)
-	if err != nil {
-		return -1
-	}
+	n, _ := strconv.Atoi(x.Text) // the greatest or the least int for one that is beyond
 	return n
 }
 
@@ -165,7 +162,7 @@ func (r *run) justify(c call) end {
 // escape ends what is performed, if no argument is left, or parameters say so.
 func (r *run) escape(c call) end {
 	a, b := c.number(0, 0), c.number(1, 0)
-	isMet := false
+	var isMet bool
 	switch len(c.params) {
 	case 0:
 		isMet = !c.colon && r.args.left() == 0 || c.colon && r.lists.left() == 0

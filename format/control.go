@@ -37,7 +37,7 @@ type directive struct {
 }
 
 // isBetween reports whether a directive stands between or behind the parts of a bracket.
-func (d directive) isBetween() bool { return d.char != 0 && strings.IndexByte(";)]}>", d.char) >= 0 }
+func (d directive) isBetween() bool { return strings.IndexByte(";)]}>", d.char) >= 0 }
 
 // closer returns the character that closes a bracket, or 0.
 func closer(char byte) byte {

@@ -280,7 +280,7 @@ func TestP13_1Cased(t *testing.T) {
 		colon, at bool
 		want      string
 	}{
-		{"hello wORLD", false, false, "hello world"}, {"hello wORLD", true, false, "Hello World"}, {"hello wORLD", false, true, "Hello world"}, {"hello wORLD", true, true, "HELLO WORLD"}, {"", true, false, ""}, {"12 ab CD", false, true, "12 Ab cd"}, {"1ab-c2D'e_fG", true, false, "1Ab-C2d'E_Fg"}, {"12 3a", true, false, "12 3A"}, {"éÉaB", true, false, "éÉAb"}, {"éaB", false, true, "éAb"}, {"@[`{AZaz", false, false, "@[`{azaz"}, {"@[`{AZaz", true, true, "@[`{AZAZ"}, {"\xffAb", false, false, "\xffab"},
+		{"hello wORLD", false, false, "hello world"}, {"hello wORLD", true, false, "Hello World"}, {"hello wORLD", false, true, "Hello world"}, {"hello wORLD", true, true, "HELLO WORLD"}, {"", true, false, ""}, {"12 ab CD", false, true, "12 Ab cd"}, {"1ab-c2D'e_fG", true, false, "1Ab-C2d'E_Fg"}, {"12 3a", true, false, "12 3A"}, {"a0b9c/d:e", true, false, "A0b9c/D:E"}, {"éÉaB", true, false, "éÉAb"}, {"éaB", false, true, "éAb"}, {"@[`{AZaz", false, false, "@[`{azaz"}, {"@[`{AZaz", true, true, "@[`{AZAZ"}, {"\xffAb", false, false, "\xffab"},
 	} {
 		if got, e := format.Cased(x.s, x.colon, x.at); got != x.want || e != api.OK {
 			t.Errorf("%d: Cased(%q, %v, %v) = %q, %v", i, x.s, x.colon, x.at, got, e)

@@ -46,20 +46,17 @@ func exactly(out *strings.Builder, x api.Form) {
 	}
 }
 
-// loosely writes what counts by Loose, behind a mark of what it is.
+// loosely writes what counts by Loose.
 func loosely(out *strings.Builder, x api.Form) {
 	if value, ok := valueOf(x); ok {
-		put(out, "value")
 		put(out, value)
 		return
 	}
 	switch x.Kind {
 	case api.FormChar, api.FormString:
-		put(out, "text")
 		putNumber(out, x.Kind)
 		put(out, upper(x.Text))
 	case api.FormCons, api.FormVector:
-		put(out, "parts")
 		putNumber(out, x.Kind)
 		putNumber(out, len(x.Kids))
 		for _, kid := range x.Kids {
@@ -70,7 +67,7 @@ func loosely(out *strings.Builder, x api.Form) {
 	}
 }
 
-// valueOf returns a text that two numbers have in common exactly if their values are equal; false if x is no number.
+// valueOf returns a text that two numbers have in common exactly if their values are equal, and that is no text of a kind; false if x is no number.
 func valueOf(x api.Form) (string, bool) {
 	if number.Check(x) != api.OK {
 		return "", false

@@ -80,6 +80,8 @@ func TestP12_1Alike(t *testing.T) {
 		{forms.Symbol("P", "a"), forms.Symbol("P", "A"), false, false}, {forms.Symbol("P", "A"), forms.Symbol("Q", "A"), false, false}, {forms.Symbol("P", "A"), forms.Symbol("P", "A"), true, true}, {leaf(api.FormBits, "01"), leaf(api.FormBits, "01"), true, true}, {leaf(api.FormArray, "0 1"), leaf(api.FormArray, "0 2"), false, false},
 		{api.Form{Kind: api.FormArray, Kids: wholes(1)}, api.Form{Kind: api.FormArray, Kids: []api.Form{single}}, false, false}, {leaf(-1, "a"), leaf(-1, "a"), true, true}, {leaf(99, "a"), leaf(99, "A"), false, false}, {api.Form{Kids: []api.Form{}}, api.Form{}, true, true},
 		{api.Form{Kids: wholes(1, 2)}, api.Form{Kids: []api.Form{{Kind: api.FormInt, Text: "1", Kids: wholes(2)}}}, false, false}, {api.Form{Text: "a", Home: "b"}, api.Form{Text: "ab"}, false, false}, {vector(text("a"), text("b")), vector(text("a4:text1:81:b")), false, false},
+		// no two different lists of parts are taken for the same one
+		{api.Form{Text: "x:", Home: "y"}, api.Form{Text: "x", Home: ":y"}, false, false}, {api.Form{Text: "13aaaaaaaaaa", Home: "yz"}, api.Form{Text: "2", Home: "aaaaaaaaaa2yz"}, false, false}, {vector(vector(one), half), vector(vector(one, half)), false, false}, {vector(text("1 0")), vector(one), false, false}, {vector(one, half), vector(one, one, half), false, false},
 	} {
 		for test, want := range []bool{x.same, x.loose} {
 			for _, pair := range [][2]api.Form{{x.a, x.b}, {x.b, x.a}} {
@@ -207,6 +209,13 @@ func TestP12_1PairErrors(t *testing.T) {
 		} {
 			if got := call(x.a, x.b, x.test, x.key); got != x.e {
 				t.Errorf("%s %d: %v, not %v", name, i, got, x.e)
+			}
+		}
+	}
+	for _, call := range []func(a, b []api.Form, o Options) (int, api.Errno){Search, Mismatch} {
+		for _, x := range [][2][]api.Form{{long, l}, {l, long}} {
+			if n, e := call(x[0], x[1], all()); n != 0 || e != api.ErrSize {
+				t.Errorf("of too many: %d, %v", n, e)
 			}
 		}
 	}

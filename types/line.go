@@ -77,11 +77,8 @@ func (l line) stretches() iter.Seq[stretch] {
 			if s, ok := g.stretch(); ok && !yield(s) {
 				return
 			}
-			if x := g.high; x.isSet && x.value.Kind == api.FormInt {
-				x.isOpen = false
-				if !yield(stretch{x, x, x.value}) {
-					return
-				}
+			if x := g.high.value; x.Kind == api.FormInt && !yield(stretch{closed(x), closed(x), x}) {
+				return
 			}
 		}
 	}
@@ -145,10 +142,7 @@ func (l line) floats(kind int) []api.Form {
 		if x, ok := g.float(kind); ok && g.has(x) {
 			out = append(out, x)
 		}
-		if !g.high.isSet {
-			break
-		}
-		x, e := number.Float(g.high.value, kind)
+		x, e := number.Float(g.high.value, kind) // an error if there is no high end
 		if e != api.OK || compare(x, g.high.value) != 0 {
 			continue
 		}

@@ -1,6 +1,7 @@
 package types_test
 
 import (
+	"math"
 	"math/big"
 	"strconv"
 	"strings"
@@ -20,7 +21,7 @@ func TestP14_1Empty(t *testing.T) {
 		"(and (single-float 0 0) (not (eql 0.0)))": false, "(and (single-float 0 0) (not (member 0.0 -0.0)))": true, "(and (float 0 0) (not (member 0.0 -0.0 0d0)))": false, "(and (float 0 0) (not (member 0.0 -0.0 0d0 -0d0)))": true, "(and (real 0 0) (not (member 0 0.0 -0.0 0d0 -0d0)))": true, "(single-float (-1e-45) (1e-45))": false, "(and (single-float (-1e-45) (1e-45)) (not (eql 0.0)) (not (eql -0.0)))": true,
 		"(and complex (not (eql #C(0 1))))": false, "(and character (not (member #\\a #\\b)))": false, "(and complex real)": true, "(and keyword (not (member :k0 :k1)))": false, "(and boolean (not null) (not (eql t)))": true,
 		"(and vector (not string) (not bit-vector) (not simple-vector))": true, "(and (array * (*)) (not vector))": true, "(and array (not vector) (array * 1))": true, "(and (array * 2) (not (array * (* *))))": true, "(and (array * 0) (not (array * ())))": true, "(and array (not (array * 0)) (not (array * 1)) (not (array * 2)) (not (array * 3)) (not (array * 4)))": false,
-		"(and (string *) (not (string 0)) (not (vector * 1)) (not (array * (2))))": false, "(and (string 3) (not (array * (3))))": true, "(and (vector * 3) (not (string 3)) (not (bit-vector 3)) (not (simple-vector 3)))": true, "(and (array * (1 *)) (array * (* 2)) (not (array * (1 2))))": true, "(and (array * (1 *)) (array * (* 2 *)))": true, "(and string (vector * 3) (vector * 4))": true, "(and (array * 2) (not (array * (0 *))) (not (array * (1 *))) (not (array * (2 *))) (not (array * (3 *))) (not (array * (4 *))))": false, "(and (vector * *) (not array))": true,
+		"(and (string *) (not (string 0)) (not (vector * 1)) (not (array * (2))))": false, "(and (string 3) (not (array * (3))))": true, "(and (vector * 3) (not (string 3)) (not (bit-vector 3)) (not (simple-vector 3)))": true, "(and (array * (1 *)) (array * (* 2)) (not (array * (1 2))))": true, "(and (array * (1 *)) (array * (* 2 *)))": true, "(and string (vector * 3) (vector * 4))": true, "(and (array * 2) (not (array * (0 *))) (not (array * (1 *))) (not (array * (2 *))) (not (array * (3 *))) (not (array * (4 *))))": false, "(and (vector * *) (not array))": true, "(array * (1 2 3 4))": false, "(and (array * (1 * * *)) (array * (* 2 * *)) (not (array * (* * 0 *))) (not (array * (* * * 0))))": false, "(and (array * (* 2 * *)) (not (array * (1 * * *))) (not (array * (0 * * *))))": false, "(and string (not (string 0)) (not (string 1)))": false,
 		"(cons nil)": true, "(cons t nil)": true, "(and (cons bit) (cons string))": true, "(and (cons bit *) (cons * bit) (not (cons bit bit)))": true, "(and (cons (or bit string) (or bit string)) (not (cons bit bit)) (not (cons string string)) (not (cons bit string)))": false, "(and (cons (or bit string) (or bit string)) (not (cons bit bit)) (not (cons string string)) (not (cons bit string)) (not (cons string bit)))": true, "(and cons list (not sequence))": true, "(and (not atom) (not cons))": true, "(and (cons cons) (not (cons (cons * *))))": true,
 		"(and (cons (cons bit)) (not (cons (cons (eql 0)))) (not (cons (cons (eql 1)))))": true, "(cons (cons (cons (cons nil))))": true, "(cons (cons (cons (cons t nil))))": true, "(and (cons (cons * (cons bit))) (not (cons (cons * (cons fixnum)))))": true,
 		"(and function hash-table)": true, "(and (not atom) function)": true, "(and atom (not symbol) (not number) (not character) (not array) (not function) (not hash-table))": false, "(and symbol (or function hash-table))": true,
@@ -45,7 +46,7 @@ func TestP14_1Subtypep(t *testing.T) {
 		{"(single-float 0 1)", "(or (single-float 0 0.99999994) (eql 1.0))", true}, {"(double-float 0 1)", "(or (double-float 0 0.99999994) (eql 1d0))", false}, {"float", "(or single-float double-float)", true}, {"real", "(or integer ratio float)", true}, {"number", "(or real complex)", true}, {"(real 0 0)", "(member 0 0.0 -0.0 0d0 -0d0)", true},
 		{"null", "(and list symbol boolean sequence (not cons) atom)", true}, {"list", "sequence", true}, {"string", "(and vector sequence array)", true}, {"(simple-vector 3)", "(array * (3))", true}, {"(array * (3))", "(or (string 3) (bit-vector 3) (simple-vector 3))", true}, {"(vector * 2)", "(array * 1)", true}, {"atom", "(not cons)", true}, {"t", "(or atom (cons * *))", true},
 		{"(cons (integer 0 9))", "(or (cons (integer 0 4)) (cons (integer 5 9)))", true}, {"(cons (rational 0 9))", "(or (cons (rational 0 4)) (cons (rational 5 9)))", false}, {"(cons (or bit string) (or bit string))", "(or (cons bit bit) (cons string string))", false}, {"(cons (cons bit bit) bit)", "(or (cons (cons (eql 0)) (eql 0)) (cons (cons (eql 1)) (eql 0)) (cons * (eql 1)))", true},
-		{"(eql :a)", "keyword", true}, {"keyword", "symbol", true}, {"function", "atom", true}, {"(eql 1)", "(eql 1.0)", false}, {"(or)", "(cons nil)", true}, {"(cons nil)", "nil", true}, {"t", "nil", false}, {"nil", "nil", true}, {"t", "t", true},
+		{"(cons bit (and string))", "(cons bit (and symbol))", false}, {"(cons bit (or string))", "(cons bit (and string))", true}, {"(cons bit (and))", "(cons bit)", true}, {"(eql :a)", "keyword", true}, {"keyword", "symbol", true}, {"function", "atom", true}, {"(eql 1)", "(eql 1.0)", false}, {"(or)", "(cons nil)", true}, {"(cons nil)", "nil", true}, {"t", "nil", false}, {"nil", "nil", true}, {"t", "t", true},
 	} {
 		a, b := parsed(t, x.a), parsed(t, x.b)
 		is, w, e := types.Subtypep(a, b)
@@ -201,4 +202,86 @@ func TestP14_5Sums(t *testing.T) {
 			}
 		}
 	}
+}
+
+// leastAbove returns the least float of a kind above a number; nil if there is none.
+func leastAbove(x *big.Rat, kind int) *big.Rat {
+	if kind == api.FormSingle {
+		f, _ := x.Float32()
+		for r := new(big.Rat); !math.IsInf(float64(f), 0); f = math.Nextafter32(f, float32(math.Inf(1))) {
+			if r.SetFloat64(float64(f)).Cmp(x) > 0 {
+				return r
+			}
+		}
+		if f < 0 {
+			return new(big.Rat).SetFloat64(-math.MaxFloat32)
+		}
+		return nil
+	}
+	f, _ := x.Float64()
+	for r := new(big.Rat); !math.IsInf(f, 0); f = math.Nextafter(f, math.Inf(1)) {
+		if r.SetFloat64(f).Cmp(x) > 0 {
+			return r
+		}
+	}
+	return nil
+}
+
+// isGapEmpty tells by its definition whether no number of a kind lies between two others, which are none if they are nil.
+func isGapEmpty(low, high *big.Rat, kind int) bool {
+	if low == nil && high == nil || kind == api.FormRatio {
+		return false
+	}
+	if low == nil { // the other way round
+		low, high = new(big.Rat).Neg(high), nil
+	}
+	var next *big.Rat
+	switch kind {
+	case api.FormInt:
+		floor := new(big.Int).Div(low.Num(), low.Denom())
+		next = new(big.Rat).SetInt(floor.Add(floor, big.NewInt(1)))
+	default:
+		next = leastAbove(low, kind)
+	}
+	return next == nil || high != nil && next.Cmp(high) >= 0
+}
+
+// Between any two bounds the numbers of each kind are found, however few there are.
+func TestP14_1Gaps(t *testing.T) {
+	cuts := strings.Fields("-1.7976931348623157d308 -1d300 -3.4028235e38 -16777217 -5 -9/2 -4 -1/3 -0.3333333 -1e-45 -4.9d-324 0 4.9d-324 1e-45 0.3333333 1/3 0.33333334 1/2 0.99999994 1 1.0000000000000002d0 1.0000001 1.0000002 3/2 2 5 16777216 16777217 16777218 16777219 3.4028235e38 3.5d38 1d300 1.7976931348623157d308")
+	kinds := map[string]int{"integer": api.FormInt, "ratio": api.FormRatio, "single-float": api.FormSingle, "double-float": api.FormDouble}
+	check := func(kind, bounds string, want bool) {
+		f := parsed(t, "(and "+kind+" (real "+bounds+"))")
+		none, w, e := types.Empty(f)
+		if none != want || e != api.OK || !none && (!isObject(w) || !isOf(w, f)) {
+			t.Errorf("Empty(%v) = %v, %v, %v", f, none, w, e)
+		}
+	}
+	for name, kind := range kinds {
+		for i, a := range cuts {
+			x := valueOf(parsed(t, a))
+			check(name, "* ("+a+")", isGapEmpty(nil, x, kind))
+			check(name, "("+a+") *", isGapEmpty(x, nil, kind))
+			check(name, a+" "+a, !isPoint(x, kind))
+			for _, b := range cuts[i+1:] {
+				check(name, "("+a+") ("+b+")", isGapEmpty(x, valueOf(parsed(t, b)), kind))
+			}
+		}
+	}
+}
+
+// isPoint reports whether a number is the value of one of a kind.
+func isPoint(x *big.Rat, kind int) bool {
+	switch kind {
+	case api.FormInt:
+		return x.IsInt()
+	case api.FormRatio:
+		return !x.IsInt()
+	}
+	f, _ := x.Float64()
+	if kind == api.FormSingle {
+		single, _ := x.Float32()
+		f = float64(single)
+	}
+	return !math.IsInf(f, 0) && new(big.Rat).SetFloat64(f).Cmp(x) == 0
 }

@@ -60,11 +60,11 @@ func hasLong(t api.Form) bool {
 // spec reads a type that stands in some conses.
 func (r *reader) spec(t api.Form, nesting int) spec {
 	if t.Kind == api.FormSymbol && t.Home == commonLisp {
-		make, ok := r.names[t.Text]
+		of, ok := r.names[t.Text]
 		if !ok {
 			fail()
 		}
-		return make()
+		return of()
 	}
 	l, ok := forms.Items(t)
 	if !ok || l[0].Kind != api.FormSymbol || l[0].Home != commonLisp {

@@ -171,13 +171,8 @@ func (s *spec) rest(answer func(s *spec) string) string {
 			l = append(l, r)
 		}
 	}
-	slices.Sort(l)
-	l = slices.Compact(l)
-	switch len(l) {
-	case 0:
+	if len(l) == 0 {
 		return s.turned(unit)
-	case 1:
-		return s.turned(l[0])
 	}
 	return s.turned(sign + "(" + strings.Join(l, " ") + ")")
 }

@@ -47,7 +47,7 @@ func TestP14_1Check(t *testing.T) {
 		"(integer 1 2 3)", "(integer 1.0)", "(integer 1/2)", "(integer (1 2))", "(integer ())", "(integer nil)", "(integer (*))", "(integer ((1)))", "(integer a)", "(rational 1.0)", "(real #C(1 2))", "(real \"1\")", "(float a)", "(single-float (1 . 2))", "(double-float #\\a)", "(integer 1 . 2)",
 		"(unsigned-byte)", "(unsigned-byte *)", "(unsigned-byte 0)", "(unsigned-byte 201)", "(signed-byte 0)", "(signed-byte 201)", "(mod 0)", "(mod -1)", "(mod 1000000001)", "(mod 1.0)", "(mod (1))", "(mod 100000000000000000000000)", "(unsigned-byte 1 2)",
 		"(cons t t t)", "(cons foo)", "(cons t 1)", "(cons (*))", "(cons (cons (cons (cons (cons)))))", "(cons * (cons * (cons * (cons * (cons)))))", "(cons (and (cons (not (cons (or (cons (cons t))))))))",
-		"(string)", "(string 51)", "(string -1)", "(string 1 2)", "(string (1))", "(bit-vector)", "(bit-vector a)", "(simple-vector t 1)", "(vector)", "(vector *)", "(vector t 1)", "(vector * 51)", "(vector 1 *)", "(vector * 1 2)", "(array)", "(array *)", "(array t 1)", "(array * 5)", "(array * -1)", "(array * (5))", "(array * (1 2 3 4 5))", "(array * (1 . 2))", "(array * a)", "(array * (a))", "(array * 1 2)",
+		"(string)", "(string \"1\")", "(mod \"3\")", "(array * \"1\")", "(array * (\"1\"))", "(string 51)", "(string -1)", "(string 1 2)", "(string (1))", "(bit-vector)", "(bit-vector a)", "(simple-vector t 1)", "(vector)", "(vector *)", "(vector t 1)", "(vector * 51)", "(vector 1 *)", "(vector * 1 2)", "(array)", "(array *)", "(array t 1)", "(array * 5)", "(array * -1)", "(array * (5))", "(array * (1 2 3 4 5))", "(array * (1 . 2))", "(array * a)", "(array * (a))", "(array * 1 2)",
 	} {
 		if e := types.Check(parsed(t, s)); e != types.ErrType {
 			t.Errorf("Check(%s) = %v", s, e)
@@ -191,6 +191,12 @@ func TestP14_1Errors(t *testing.T) {
 	}
 	if l, e := types.Samples(slices.Repeat([]api.Form{wrong}, 7)); len(l) > 0 || e != api.ErrSize {
 		t.Errorf("Samples of too many wrong types: %v, %v", l, e)
+	}
+}
+
+func TestP14_1Code(t *testing.T) {
+	if types.ErrType != 160 {
+		t.Error(types.ErrType)
 	}
 }
 
