@@ -46,3 +46,15 @@ func TestP8_1Dimensions(t *testing.T) {
 		}
 	}
 }
+
+func TestP13_1IsRight(t *testing.T) {
+	x := api.Form{Kind: api.FormInt, Text: "1"}
+	for _, y := range []struct {
+		f    api.Form
+		want bool
+	}{{x, true}, {forms.List([]api.Form{x, x}), true}, {api.Form{}, false}, {api.Form{Kind: api.FormInt, Text: "01"}, false}, {api.Form{Kind: api.FormRef, Text: "0"}, false}, {api.Form{Kind: api.FormVector, Kids: make([]api.Form, 2000)}, false}} {
+		if got := IsRight(y.f); got != y.want {
+			t.Errorf("IsRight(%.50v) = %v", y.f, got)
+		}
+	}
+}
