@@ -258,6 +258,22 @@ func TestP16_4Ephemerons(t *testing.T) {
 	}
 }
 
+// What a value holds is reached through it, whether the key is met ahead of the ephemeron or behind it.
+func TestP16_4Values(t *testing.T) {
+	for _, first := range []bool{false, true} {
+		h, c := collector(t, 200, 200)
+		key := object(t, h, heap.KindBox, fix(1))
+		value := object(t, h, heap.KindCons, object(t, h, heap.KindBox, object(t, h, heap.KindBox, fix(2))), heap.Nil)
+		pair := object(t, h, heap.KindEphemeron, key, value)
+		if first {
+			h.Root(key)
+		}
+		h.Root(pair)
+		h.Root(object(t, h, heap.KindBox, key))
+		major(t, c, want{Before: 20, After: 20})
+	}
+}
+
 // A long chain of ephemerons, whose keys are each the value of the next one, whatever the order in which they stand.
 func TestP16_4Chain(t *testing.T) {
 	for _, turned := range []bool{false, true} {

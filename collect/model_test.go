@@ -247,21 +247,21 @@ func (m *model) anyWord(r *rand.Rand) heap.Word {
 
 // change does something with the heap.
 func (m *model) change(t *testing.T, r *rand.Rand) {
-	kinds := []int{heap.KindCons, heap.KindWeak, heap.KindEphemeron, heap.KindEphemeron, heap.KindVector}
-	switch r.IntN(9) {
-	case 0, 1, 2:
+	kinds := []int{heap.KindCons, heap.KindWeak, heap.KindEphemeron, heap.KindEphemeron, heap.KindEphemeron, heap.KindVector}
+	switch r.IntN(13) {
+	case 0, 1, 2, 3, 4, 5, 6:
 		w, e := m.h.New(kinds[r.IntN(len(kinds))], r.IntN(5))
 		for i := range m.h.Len(w) {
 			m.h.Set(w, i, m.anyWord(r))
 		}
-		if e == api.OK && r.IntN(2) == 0 {
+		if e == api.OK && r.IntN(3) == 0 {
 			m.h.Root(w)
 		}
-	case 3:
+	case 7:
 		m.h.Raw(kinds[r.IntN(len(kinds))], "some bytes"[r.IntN(10):])
-	case 4, 5:
+	case 8, 9:
 		m.h.Set(m.anyWord(r), r.IntN(4), m.anyWord(r))
-	case 6, 7:
+	case 10, 11:
 		if l := m.h.Roots(); len(l) > 0 {
 			m.h.Drop(l[r.IntN(len(l))])
 		}
@@ -278,10 +278,10 @@ func (m *model) change(t *testing.T, r *rand.Rand) {
 func TestP16_1Model(t *testing.T) {
 	for seed := range uint64(250) {
 		r := rand.New(rand.NewPCG(seed, 16))
-		m := newModel(t, 400, 100)
-		for range 100 {
+		m := newModel(t, 1000, 100)
+		for range 200 {
 			m.change(t, r)
-			if r.IntN(8) == 0 {
+			if r.IntN(20) == 0 {
 				m.collect(t, r.IntN(2) == 0)
 			}
 			if r.IntN(20) == 0 {

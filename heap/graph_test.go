@@ -2,6 +2,7 @@ package heap_test
 
 import (
 	"reflect"
+	"slices"
 	"strings"
 	"testing"
 
@@ -135,7 +136,7 @@ func TestP15_1LayErrors(t *testing.T) {
 		words []heap.Field
 		e     api.Errno
 	}{
-		{make([]heap.Cell, 20001), nil, api.ErrArg},
+		{slices.Repeat([]heap.Cell{{Kind: 1}}, 20001), []heap.Field{now(7)}, api.ErrArg},
 		{[]heap.Cell{good, {}}, []heap.Field{now(7)}, api.ErrArg},
 		{[]heap.Cell{good, {Kind: 32, Bytes: "x", Fields: []heap.Field{now(7)}}}, nil, api.ErrArg},
 		{[]heap.Cell{{Kind: -1}}, nil, api.ErrArg},
@@ -173,6 +174,10 @@ func TestP15_1LayErrors(t *testing.T) {
 		}
 	}
 	h := empty(t, 65536, 1)
+	if _, e := h.Lay([]heap.Cell{{Kind: 1, Raw: true, Bytes: strings.Repeat("x", 131072)}, {Kind: 31, Fields: make([]heap.Field, 16384)}}, nil); e != api.OK {
+		t.Errorf("Lay of the largest objects: %v", e)
+	}
+	h = empty(t, 65536, 1)
 	full := make([]heap.Cell, 20000)
 	for i := range full {
 		full[i] = heap.Cell{Kind: heap.KindBox, Fields: []heap.Field{ref(19999 - i)}}

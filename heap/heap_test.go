@@ -114,6 +114,18 @@ func TestP15_2Tags(t *testing.T) {
 	}
 }
 
+func TestP15_1Kinds(t *testing.T) {
+	kinds := []int{heap.KindSymbol, heap.KindInt, heap.KindRatio, heap.KindSingle, heap.KindDouble, heap.KindComplex, 7, heap.KindString, heap.KindBits, heap.KindCons, heap.KindVector, heap.KindArray, heap.KindTable, heap.KindEntry, heap.KindClosure, heap.KindCode, heap.KindBuiltin, heap.KindClass, heap.KindInstance, heap.KindGeneric, heap.KindMethod, heap.KindWeak, heap.KindPackage, heap.KindBox, heap.KindEphemeron}
+	for i, k := range kinds {
+		if k != i+1 {
+			t.Errorf("the kind %d is %d", i+1, k)
+		}
+	}
+	if heap.KindLast != 31 || heap.ErrWord != 170 || heap.ErrRaw != 171 {
+		t.Errorf("%d, %d, %d", heap.KindLast, heap.ErrWord, heap.ErrRaw)
+	}
+}
+
 // Only right words may stand in fields and roots.
 func TestP15_1RightWords(t *testing.T) {
 	h := empty(t, 100, 100)
@@ -297,7 +309,7 @@ func TestP15_1Room(t *testing.T) {
 	if _, e := h.Lay([]heap.Cell{{Kind: 1}, {Kind: 1}}, nil); e != api.ErrWords || h.Used() != 63 {
 		t.Errorf("Lay of 2 words: %v, Used %d", e, h.Used())
 	}
-	if w := raw(t, h, heap.KindString, ""); h.Place(w) != 63 || h.Used() != 64 || !h.Full() {
+	if w := raw(t, h, heap.KindString, ""); h.Place(w) != 63 || h.Used() != 64 || !h.Full() || h.Place(w+8) != -1 {
 		t.Errorf("the last word: place %d, Used %d, Full %v", h.Place(w), h.Used(), h.Full())
 	}
 	if e := h.Keep([]heap.Word{v}, nil); e != api.OK || h.Full() || h.Old() != 63 {

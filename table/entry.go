@@ -95,9 +95,7 @@ func (t table) kindOfEntries() int {
 	return heap.KindEntry
 }
 
-func (t table) isEntry(w heap.Word) bool {
-	return t.h.Kind(w) == t.kindOfEntries() && t.h.Len(w) == entryFields
-}
+func (t table) isEntry(w heap.Word) bool { return t.h.Kind(w) == t.kindOfEntries() }
 
 // walk walks entries, each of which has the next one in a field. It ends where fields that others have changed lead round.
 func (t table) walk(first heap.Word, next int) iter.Seq[heap.Word] {

@@ -134,11 +134,11 @@ func (t table) bucket(buckets, key heap.Word) int {
 func (t table) isSoft(key heap.Word) bool {
 	switch t.h.Kind(key) {
 	case heap.KindComplex:
-		return t.test >= EqlTest && hasFields(t.h, key)
+		return t.test >= EqlTest
 	case heap.KindCons:
-		return t.test >= EqualTest && hasFields(t.h, key)
+		return t.test >= EqualTest
 	case heap.KindVector, heap.KindArray:
-		return t.test == EqualpTest && hasFields(t.h, key)
+		return t.test == EqualpTest
 	}
 	return false
 }

@@ -107,12 +107,9 @@ func (x hasher) parts(kind int, parts []heap.Word, depth int) uint64 {
 	return hash
 }
 
-// number returns the hash of the form of a number, or of its value for Equalp.
+// number returns the hash of the form of what is made like a number, or of its value for Equalp.
 func (x hasher) number(w heap.Word) (uint64, bool) {
-	f, ok := formOf(x.h, w)
-	if !ok {
-		return 0, false
-	}
+	f := formOf(x.h, w)
 	if x.test != EqualpTest {
 		return mixForm(hashStart, f), true
 	}

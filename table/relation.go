@@ -168,15 +168,11 @@ func (r *relation) askNumbers(a, b heap.Word) answer {
 	if !a.IsRef() && !b.IsRef() { // two fixnums that are not the same word
 		return differ
 	}
-	x, one := formOf(r.h, a)
-	y, other := formOf(r.h, b)
-	if !one || !other {
-		return differ
-	}
+	x, y := formOf(r.h, a), formOf(r.h, b)
 	var ok bool
 	if r.test == EqualpTest {
 		ok, _ = number.Equals(x, y)
-	} else if x.Kind == y.Kind && x.Text == y.Text {
+	} else if x.Text == y.Text { // Eql would look at long ones first
 		ok, _ = number.Eql(x, y)
 	}
 	if ok {

@@ -18,36 +18,32 @@ func kindOf(h *heap.Heap, w heap.Word) int {
 
 func isNumber(kind int) bool { return kind >= heap.KindInt && kind <= heap.KindComplex }
 
-// formOf returns the form of an object that is made like a number; whether it is one, layer 5 tells.
-func formOf(h *heap.Heap, w heap.Word) (api.Form, bool) {
+// formOf returns the form of an object, if it is a number; of all others a form that layer 5 takes for none.
+func formOf(h *heap.Heap, w heap.Word) api.Form {
 	if n, ok := w.Fixnum(); ok {
-		return api.Form{Kind: api.FormInt, Text: strconv.FormatInt(n, 10)}, true
+		return api.Form{Kind: api.FormInt, Text: strconv.FormatInt(n, 10)}
 	}
 	kind := h.Kind(w)
 	if kind == heap.KindComplex {
 		return complexOf(h, w)
 	}
-	text, e := h.Bytes(w)
-	return api.Form{Kind: kind, Text: text}, isNumber(kind) && e == api.OK
+	text, _ := h.Bytes(w)
+	return api.Form{Kind: kind, Text: text}
 }
 
-func complexOf(h *heap.Heap, w heap.Word) (api.Form, bool) {
-	fields, ok := fieldsOf(h, w)
-	if !ok || len(fields) != 2 {
-		return api.Form{}, false
+func complexOf(h *heap.Heap, w heap.Word) api.Form {
+	fields, _ := fieldsOf(h, w)
+	if len(fields) != 2 {
+		return api.Form{}
 	}
 	out := api.Form{Kind: api.FormComplex}
 	for _, field := range fields {
 		if kindOf(h, field) == heap.KindComplex { // no part of a number, and maybe w itself
-			return api.Form{}, false
+			return api.Form{}
 		}
-		part, ok := formOf(h, field)
-		if !ok {
-			return api.Form{}, false
-		}
-		out.Kids = append(out.Kids, part)
+		out.Kids = append(out.Kids, formOf(h, field))
 	}
-	return out, true
+	return out
 }
 
 // fieldsOf returns the fields of an object, and whether it has fields, and no bytes.
