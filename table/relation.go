@@ -1,7 +1,6 @@
 package table
 
 import (
-	"iter"
 	"slices"
 
 	"commonform/api"
@@ -69,13 +68,16 @@ func (r *relation) holds(a, b heap.Word) bool {
 // holdsByParts reports whether the parts of two words, which agree if these do, are in the relation.
 func (r *relation) holdsByParts(a, b heap.Word) bool {
 	var open [][2]heap.Word
-	for p, q := range r.parts(a, b) {
-		switch r.ask(p, q) {
-		case differ:
-			return false
-		case perhaps:
+	look := func(p, q heap.Word) bool {
+		answer := r.ask(p, q)
+		if answer == perhaps {
+			r.mark(p, q)
 			open = append(open, [2]heap.Word{p, q})
 		}
+		return answer != differ
+	}
+	if !r.each(a, b, look) {
+		return false
 	}
 	if len(open) == 0 || r.join(a, b) {
 		return true
@@ -88,17 +90,16 @@ func (r *relation) holdsByParts(a, b heap.Word) bool {
 	return true
 }
 
-// mark keeps a pair that needs no look any more. Most comparisons end ahead of the first one.
+// mark keeps a pair that need not be asked for again: it agrees, or its parts are looked at before the answer.
 func (r *relation) mark(a, b heap.Word) {
-	if r.marks == nil {
+	if r.marks == nil { // most comparisons end ahead of the first mark
 		r.marks, r.leaders = map[[2]heap.Word]bool{}, map[heap.Word]heap.Word{}
 	}
 	r.marks[[2]heap.Word{a, b}] = true
 }
 
-// join marks a pair, makes one class of the classes of its words, and reports whether they were one.
+// join makes one class of the classes of two words, and reports whether they were one.
 func (r *relation) join(a, b heap.Word) bool {
-	r.mark(a, b)
 	a, b = r.leader(a), r.leader(b)
 	if a == b {
 		return true
@@ -138,16 +139,18 @@ func (r *relation) ask(a, b heap.Word) answer {
 	case r.test == EqualpTest:
 		return r.askArrays(a, b)
 	case j == heap.KindString && k == j, j == heap.KindBits && k == j:
-		return when(haveSameBytes(r.h, a, b), agree)
+		return r.byValue(a, b, haveSameBytes(r.h, a, b))
 	}
 	return differ
 }
 
-func when(ok bool, x answer) answer {
-	if ok {
-		return x
+// byValue says that two words agree, or differ; it marks those that agree, since long texts take their time.
+func (r *relation) byValue(a, b heap.Word, ok bool) answer {
+	if !ok {
+		return differ
 	}
-	return differ
+	r.mark(a, b)
+	return agree
 }
 
 // askPairs looks at the parts of two conses that are no conses: most conses that are compared differ there.
@@ -155,15 +158,14 @@ func (r *relation) askPairs(a, b heap.Word) answer {
 	if !isPair(r.h, a) || !isPair(r.h, b) {
 		return differ
 	}
-	for p, q := range r.carAndCdr(a, b) {
-		if r.h.Kind(p) != heap.KindCons && r.ask(p, q) == differ {
-			return differ
-		}
+	mayAgree := r.each(a, b, func(p, q heap.Word) bool { return r.h.Kind(p) == heap.KindCons || r.ask(p, q) != differ })
+	if !mayAgree {
+		return differ
 	}
 	return perhaps
 }
 
-// askNumbers marks numbers that agree: comparing long ones takes its time.
+// askNumbers says whether two numbers, or what is made like them, agree.
 func (r *relation) askNumbers(a, b heap.Word) answer {
 	if !a.IsRef() && !b.IsRef() { // two fixnums that are not the same word
 		return differ
@@ -175,10 +177,7 @@ func (r *relation) askNumbers(a, b heap.Word) answer {
 	} else if x.Text == y.Text { // Eql would look at long ones first
 		ok, _ = number.Eql(x, y)
 	}
-	if ok {
-		r.mark(a, b)
-	}
-	return when(ok, agree)
+	return r.byValue(a, b, ok)
 }
 
 // askArrays says whether two words agree that are no numbers and not both conses.
@@ -186,11 +185,14 @@ func (r *relation) askArrays(a, b heap.Word) answer {
 	if !a.IsRef() && !b.IsRef() {
 		c, one := a.Character()
 		d, other := b.Character()
-		return when(one && other && small(c) == small(d), agree)
+		return r.byValue(a, b, one && other && small(c) == small(d))
 	}
 	x, one := arrayOf(r.h, a)
 	y, other := arrayOf(r.h, b)
-	return when(one && other && slices.Equal(x.dims, y.dims), perhaps)
+	if !one || !other || !slices.Equal(x.dims, y.dims) {
+		return differ
+	}
+	return perhaps
 }
 
 func haveSameBytes(h *heap.Heap, a, b heap.Word) bool {
@@ -202,31 +204,25 @@ func haveSameBytes(h *heap.Heap, a, b heap.Word) bool {
 	return e == api.OK && f == api.OK && x == y
 }
 
-// parts walks the parts of two words that agree if these do, in pairs.
-func (r *relation) parts(a, b heap.Word) iter.Seq2[heap.Word, heap.Word] {
+// each asks for the parts of two words that agree if these do, pair by pair, and reports whether all answers are true.
+func (r *relation) each(a, b heap.Word, ask func(p, q heap.Word) bool) bool {
 	if r.h.Kind(a) == heap.KindCons {
-		return r.carAndCdr(a, b)
-	}
-	p, q := r.elements(a, b)
-	return func(yield func(heap.Word, heap.Word) bool) {
-		for i, x := range p {
-			if !yield(x, q[i]) {
-				return
-			}
-		}
-	}
-}
-
-func (r *relation) carAndCdr(a, b heap.Word) iter.Seq2[heap.Word, heap.Word] {
-	return func(yield func(heap.Word, heap.Word) bool) {
 		for i := range 2 {
 			p, _ := r.h.Get(a, i)
 			q, _ := r.h.Get(b, i)
-			if !yield(p, q) {
-				return
+			if !ask(p, q) {
+				return false
 			}
 		}
+		return true
 	}
+	p, q := r.elements(a, b)
+	for i := range p {
+		if !ask(p[i], q[i]) {
+			return false
+		}
+	}
+	return true
 }
 
 // elements returns the elements of two arrays with the same dimensions. If one of them has a vector for its elements, both are compared as arrays of their own: as to their number, and once only if many arrays share them.

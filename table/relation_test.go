@@ -412,30 +412,49 @@ func TestP17_2Circles(t *testing.T) {
 
 // What is shared is compared once, not as often as ways lead to it.
 func TestP17_2Shared(t *testing.T) {
-	h := empty(t, 65536)
-	tree := func(leaf heap.Word) heap.Word {
+	tree := func(h *heap.Heap, leaf heap.Word) heap.Word {
 		for range 60 {
 			leaf = object(t, h, heap.KindCons, leaf, leaf)
 		}
 		return leaf
 	}
-	long := func() heap.Word { return raw(t, h, heap.KindInt, "1"+strings.Repeat("7", 19000)) }
-	wide := func(x heap.Word) heap.Word {
+	wide := func(h *heap.Heap, x heap.Word) heap.Word {
 		return object(t, h, heap.KindVector, slices.Repeat([]heap.Word{x}, 5000)...)
 	}
-	arrays := func(elements heap.Word) heap.Word {
+	list := func(h *heap.Heap, x heap.Word) heap.Word {
+		l := heap.Nil
+		for range 5000 {
+			l = object(t, h, heap.KindCons, x, l)
+		}
+		return l
+	}
+	digits := func(h *heap.Heap) heap.Word { return raw(t, h, heap.KindInt, "1"+strings.Repeat("7", 19000)) }
+	text := func(h *heap.Heap) heap.Word { return raw(t, h, heap.KindString, strings.Repeat("long ", 16000)) }
+	arrays := func(h *heap.Heap, elements heap.Word) heap.Word {
 		l := make([]heap.Word, 1000)
 		for i := range l {
 			l[i] = object(t, h, heap.KindArray, object(t, h, heap.KindVector, fix(5000)), elements)
 		}
 		return object(t, h, heap.KindVector, l...)
 	}
-	for i, x := range [][2]heap.Word{{tree(fix(1)), tree(fix(1))}, {wide(long()), wide(long())}, {arrays(wide(fix(1))), arrays(wide(fix(1)))}} {
-		if !same(t, h, table.EqualpTest, x[0], x[1]) {
-			t.Errorf("pair %d is not the same", i)
+	for i, f := range []func(h *heap.Heap) heap.Word{
+		func(h *heap.Heap) heap.Word { return tree(h, fix(1)) },
+		func(h *heap.Heap) heap.Word { return wide(h, digits(h)) },
+		func(h *heap.Heap) heap.Word { return wide(h, text(h)) },
+		func(h *heap.Heap) heap.Word { return list(h, text(h)) },
+		func(h *heap.Heap) heap.Word { return arrays(h, wide(h, fix(1))) },
+	} {
+		h := empty(t, 65536)
+		a, b := f(h), f(h)
+		if !same(t, h, table.EqualpTest, a, b) {
+			t.Errorf("pair %d is not equalp", i)
+		}
+		if got := same(t, h, table.EqualTest, a, b); got != (i == 0 || i == 3) {
+			t.Errorf("pair %d by Equal: %v", i, got)
 		}
 	}
-	if same(t, h, table.EqualTest, tree(fix(1)), tree(fix(2))) {
+	h := empty(t, 65536)
+	if same(t, h, table.EqualTest, tree(h, fix(1)), tree(h, fix(2))) {
 		t.Error("trees with other leaves are equal")
 	}
 }
