@@ -126,7 +126,7 @@ func (t table) putter(buckets heap.Word) func(entry heap.Word) {
 
 // bucket returns the index of the bucket of a key.
 func (t table) bucket(buckets, key heap.Word) int {
-	hash := hasher{t.h, t.test, true}.word(key, hashDepth)
+	hash := hasher{t.h, t.test, true}.word(key, hashParts)
 	return int(hash % uint64(t.h.Len(buckets)))
 }
 

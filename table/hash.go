@@ -6,10 +6,10 @@ import (
 	"commonform/number"
 )
 
-// How much of an object is hashed at most.
+// How many parts of an object are hashed at most, and how many times fewer of each of them.
 const (
-	hashDepth = 3
 	hashParts = 32
+	hashFewer = 8
 )
 
 const (
@@ -32,7 +32,7 @@ func Hash(h *heap.Heap, test int, a heap.Word) (uint64, api.Errno) {
 	if !isTest(test) {
 		return 0, api.ErrArg
 	}
-	return hasher{h, test, test <= EqlTest}.word(a, hashDepth), api.OK
+	return hasher{h, test, test <= EqlTest}.word(a, hashParts), api.OK
 }
 
 func isTest(test int) bool { return test >= Eq && test <= EqualpTest }
@@ -50,10 +50,10 @@ func mixText(hash uint64, text string) uint64 {
 	return mix(hash, uint64(len(text)))
 }
 
-// word returns the hash of a word, for which parts are looked at up to a depth.
-func (x hasher) word(w heap.Word, depth int) uint64 {
+// word returns the hash of a word, for which at most n parts are looked at.
+func (x hasher) word(w heap.Word, n int) uint64 {
 	if x.test != Eq {
-		if hash, ok := x.content(w, depth); ok {
+		if hash, ok := x.content(w, n); ok {
 			return hash
 		}
 	}
@@ -64,7 +64,7 @@ func (x hasher) word(w heap.Word, depth int) uint64 {
 }
 
 // content returns the hash of what makes a word the same as others.
-func (x hasher) content(w heap.Word, depth int) (uint64, bool) {
+func (x hasher) content(w heap.Word, n int) (uint64, bool) {
 	kind := kindOf(x.h, w)
 	switch {
 	case isNumber(kind):
@@ -73,9 +73,9 @@ func (x hasher) content(w heap.Word, depth int) (uint64, bool) {
 		return 0, false
 	case isPair(x.h, w):
 		fields, _ := fieldsOf(x.h, w)
-		return x.parts(heap.KindCons, fields, depth), true
+		return x.parts(heap.KindCons, fields, n), true
 	case x.test == EqualpTest:
-		return x.loose(w, depth)
+		return x.loose(w, n)
 	case kind == heap.KindString || kind == heap.KindBits:
 		text, e := x.h.Bytes(w)
 		return mixText(uint64(kind), text), e == api.OK
@@ -84,7 +84,7 @@ func (x hasher) content(w heap.Word, depth int) (uint64, bool) {
 }
 
 // loose returns the hash of characters and arrays for Equalp.
-func (x hasher) loose(w heap.Word, depth int) (uint64, bool) {
+func (x hasher) loose(w heap.Word, n int) (uint64, bool) {
 	if c, ok := w.Character(); ok {
 		return mix(hashStart, uint64(small(c))), true
 	}
@@ -92,17 +92,18 @@ func (x hasher) loose(w heap.Word, depth int) (uint64, bool) {
 	if !ok {
 		return 0, false
 	}
-	return x.parts(heap.KindVector, elementsOf(x.h, a.elements), depth), true
+	return x.parts(heap.KindVector, elementsOf(x.h, a.elements), n), true
 }
 
-func (x hasher) parts(kind int, parts []heap.Word, depth int) uint64 {
+// parts returns the hash of what agrees with others if its parts do.
+func (x hasher) parts(kind int, parts []heap.Word, n int) uint64 {
 	hash := mix(hashStart, uint64(kind))
-	if depth == 0 {
+	if n == 0 {
 		return hash
 	}
 	hash = mix(hash, uint64(len(parts)))
-	for _, p := range parts[:min(len(parts), hashParts)] {
-		hash = mix(hash, x.word(p, depth-1))
+	for _, p := range parts[:min(len(parts), n)] {
+		hash = mix(hash, x.word(p, n/hashFewer))
 	}
 	return hash
 }

@@ -459,6 +459,32 @@ func TestP17_2Shared(t *testing.T) {
 	}
 }
 
+// Objects as deep as a heap has room for.
+func TestP17_2Deep(t *testing.T) {
+	for _, kind := range []int{heap.KindCons, heap.KindVector} {
+		h := empty(t, 65536)
+		nest := func(leaf heap.Word) heap.Word {
+			fields := []heap.Word{leaf, heap.Nil}
+			if kind == heap.KindVector {
+				fields = fields[:1]
+			}
+			for range 32000 / (1 + len(fields)) {
+				fields[0] = object(t, h, kind, fields...)
+			}
+			return fields[0]
+		}
+		a, b := nest(fix(1)), nest(fix(1))
+		if !same(t, h, table.EqualpTest, a, b) {
+			t.Errorf("two deep objects of the kind %d are not equalp", kind)
+		}
+		for test := table.Eq; test <= table.EqualpTest; test++ {
+			if _, e := table.Hash(h, test, a); e != api.OK {
+				t.Errorf("Hash: %v", e)
+			}
+		}
+	}
+}
+
 func TestP17_1HashOfFixnums(t *testing.T) {
 	h := empty(t, 64)
 	for test := table.Eq; test <= table.EqualpTest; test++ {
