@@ -52,7 +52,7 @@ func find(h *heap.Heap, ref heap.Word) (table, api.Errno) {
 	return t, api.OK
 }
 
-// open returns a hash table that is ready for looking keys up, or the first error of its word and of others.
+// open returns a hash table that is ready for looking keys up, or the first error of its word and of others. All other calls leave a table as it is laid.
 func open(h *heap.Heap, ref heap.Word, words ...heap.Word) (table, api.Errno) {
 	t, e := find(h, ref)
 	if e != api.OK {

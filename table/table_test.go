@@ -311,8 +311,9 @@ func TestP17_1Cool(t *testing.T) {
 			if e := table.Cool(h, w); e != api.OK {
 				t.Fatal(e)
 			}
-			isCool(t, h, w, kind, mark, pairs)
 			tells(t, h, w, pairs...)
+			table.Test(h, w)
+			isCool(t, h, w, kind, mark, pairs)
 			for i := 0; i < len(pairs); i += 2 {
 				has(t, h, w, pairs[i], pairs[i+1])
 			}
