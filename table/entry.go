@@ -35,34 +35,30 @@ type table struct {
 	weak bool
 }
 
-// find returns a hash table, or the error of its word.
-func find(h *heap.Heap, ref heap.Word) (table, api.Errno) {
+// find returns a hash table, or the first error of its word and of others.
+func find(h *heap.Heap, ref heap.Word, words ...heap.Word) (table, api.Errno) {
 	if e := checkWords(h, ref); e != api.OK {
 		return table{}, e
 	}
 	t := table{h: h, ref: ref}
-	test, weak, count := t.number(ref, fieldTest), t.number(ref, fieldWeak), t.number(ref, fieldCount)
-	if h.Kind(ref) != heap.KindTable || h.Len(ref) != tableFields || !isTest(test) || weak < 0 || weak > 1 || count < 0 {
+	if !t.read() {
 		return table{}, ErrTable
-	}
-	t.test, t.weak = test, weak == 1
-	if first := t.get(ref, fieldFirst); first != heap.Nil && !t.isEntry(first) {
-		return table{}, ErrTable
-	}
-	return t, api.OK
-}
-
-// open returns a hash table that is ready for looking keys up, or the first error of its word and of others. All other calls leave a table as it is laid.
-func open(h *heap.Heap, ref heap.Word, words ...heap.Word) (table, api.Errno) {
-	t, e := find(h, ref)
-	if e != api.OK {
-		return table{}, e
 	}
 	if e := checkWords(h, words...); e != api.OK {
 		return table{}, e
 	}
-	t.refresh()
 	return t, api.OK
+}
+
+// read reads what the fields of a table say, and reports whether they are those of one.
+func (t *table) read() bool {
+	test, weak, count := t.number(t.ref, fieldTest), t.number(t.ref, fieldWeak), t.number(t.ref, fieldCount)
+	if t.h.Kind(t.ref) != heap.KindTable || t.h.Len(t.ref) != tableFields || !isTest(test) || weak < 0 || weak > 1 || count < 0 {
+		return false
+	}
+	t.test, t.weak = test, weak == 1
+	first := t.get(t.ref, fieldFirst)
+	return first == heap.Nil || t.isEntry(first)
 }
 
 // get returns a field; a word that is no reference where there is none.

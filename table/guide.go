@@ -143,11 +143,12 @@ func (t table) isSoft(key heap.Word) bool {
 	return false
 }
 
-// lookUp returns the entry of the first key that is the same as key.
+// lookUp returns the entry of the first key that is the same as key, in a table that it refreshes ahead of this. All calls that look no key up leave a table as it is laid.
 func (t table) lookUp(key heap.Word) (heap.Word, bool) {
 	if t.weak && key == heap.Unbound {
 		return 0, false
 	}
+	t.refresh()
 	r := relation{h: t.h, test: t.test}
 	for entry := range t.candidates(key) {
 		if r.holds(key, t.get(entry, entryKey)) {

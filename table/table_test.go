@@ -242,8 +242,12 @@ func TestP17_1NoRoom(t *testing.T) {
 		w := fresh(t, h, table.EqlTest, false)
 		var pairs []heap.Word
 		for n := int64(0); ; n++ {
+			used := h.Used()
 			e := table.Put(h, w, fix(n), fix(n+1))
 			if e == api.ErrWords {
+				if h.Used() != used {
+					t.Errorf("Put without room has taken %d words", h.Used()-used)
+				}
 				break
 			}
 			if e != api.OK {
@@ -313,6 +317,9 @@ func TestP17_1Cool(t *testing.T) {
 			}
 			tells(t, h, w, pairs...)
 			table.Test(h, w)
+			if weak && table.Put(h, w, heap.Unbound, fix(1)) != api.ErrArg {
+				t.Error("Unbound is a key of a weak table")
+			}
 			isCool(t, h, w, kind, mark, pairs)
 			for i := 0; i < len(pairs); i += 2 {
 				has(t, h, w, pairs[i], pairs[i+1])
