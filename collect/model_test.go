@@ -276,7 +276,7 @@ func (m *model) change(t *testing.T, r *rand.Rand) {
 
 // P16.1 to P16.5: whatever is done, collections do what the definitions say.
 func TestP16_1Model(t *testing.T) {
-	for seed := range uint64(250) {
+	for seed := range uint64(500) {
 		r := rand.New(rand.NewPCG(seed, 16))
 		m := newModel(t, 1000, 100)
 		for range 200 {

@@ -317,6 +317,21 @@ func TestP15_1Room(t *testing.T) {
 	}
 }
 
+// No word inside of an object is the place of one, wherever the object lies.
+func TestP15_1Inside(t *testing.T) {
+	for n := range 200 {
+		h := empty(t, 500, 500)
+		object(t, h, heap.KindVector, make([]heap.Word, n)...)
+		w := raw(t, h, heap.KindString, strings.Repeat("\x2d", 8*(n%70)))
+		for place := 1; place < h.Used()+2; place++ {
+			x := heap.Word(place)<<3 | 3
+			if want := place == 6 || x == w; (h.Place(x) == place) != want || (h.Kind(x) > 0) != want {
+				t.Fatalf("%d fields: the place %d", n, place)
+			}
+		}
+	}
+}
+
 func TestP15_1Roots(t *testing.T) {
 	h := empty(t, 100, 100)
 	c := object(t, h, heap.KindBox, fix(1))

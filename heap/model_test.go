@@ -373,7 +373,7 @@ func (m *model) lay(kept []*thing, old int) {
 
 // P15.1, P15.3 and P15.5: whatever is done, the heap tells what its definition says.
 func TestP15_3Model(t *testing.T) {
-	for seed := range uint64(150) {
+	for seed := range uint64(500) {
 		r := rand.New(rand.NewPCG(seed, 15))
 		limit := 64 + r.IntN(150)
 		m := newModel(t, limit, 1+r.IntN(limit))
