@@ -138,7 +138,7 @@ func global(f api.Form) api.Form {
 }
 
 func (c *converter) variable(f api.Form, s *scope) api.Core {
-	if n, ok := s.find(variables, f); ok && n != isSpecialHere {
+	if n, ok := s.lexical(f); ok {
 		return variable(n)
 	}
 	return api.Core{Op: api.CoreSpecial, Data: global(f)}

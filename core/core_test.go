@@ -461,7 +461,7 @@ func (r *random) damaged(x api.Core, others []api.Core) api.Core {
 func TestP19_1CheckAny(t *testing.T) {
 	r := newRandom(1)
 	counts := map[api.Errno]int{}
-	for range 30000 {
+	for range 15000 {
 		c := r.right(t)
 		if !model(c) {
 			t.Fatalf("the model takes %v for wrong", c)
@@ -494,7 +494,7 @@ func TestP19_1CheckAny(t *testing.T) {
 			t.Fatalf("%v, which is wrong, is the Same", d)
 		}
 	}
-	if counts[api.OK] < 3000 || counts[api.ErrForm] < 10000 {
+	if counts[api.OK] < 1500 || counts[api.ErrForm] < 5000 {
 		t.Errorf("%d trees are right, %d are not", counts[api.OK], counts[api.ErrForm])
 	}
 }

@@ -46,3 +46,9 @@ func (s *scope) find(kind int, name api.Form) (int, bool) {
 	}
 	return walk(s)
 }
+
+// lexical returns the number of a lexical variable, and whether a name means one.
+func (s *scope) lexical(name api.Form) (int, bool) {
+	n, ok := s.find(variables, name)
+	return n, ok && n != isSpecialHere
+}

@@ -23,20 +23,13 @@ func (c *converter) setq(l []api.Form, s *scope) api.Core {
 	need(len(l)%2 == 0)
 	for i := 0; i < len(l); i += 2 {
 		need(isVariable(l[i]))
-		if n, ok := s.find(variables, l[i]); !ok || n == isSpecialHere {
+		if _, ok := s.lexical(l[i]); !ok {
 			global(l[i])
 		}
 	}
 	var out []api.Core
 	for i := 0; i < len(l); i += 2 {
-		value := c.form(l[i+1], s)
-		x := c.variable(l[i], s)
-		x.Kids = []api.Core{value}
-		x.Op = api.CoreSet
-		if x.Data.Kind != 0 {
-			x.Op = api.CoreSetSpecial
-		}
-		out = append(out, x)
+		out = append(out, assignment(l[i], c.form(l[i+1], s), s))
 	}
 	switch len(out) {
 	case 0:
@@ -45,6 +38,13 @@ func (c *converter) setq(l []api.Form, s *scope) api.Core {
 		return out[0]
 	}
 	return node(api.CoreProgn, out...)
+}
+
+func assignment(name api.Form, value api.Core, s *scope) api.Core {
+	if n, ok := s.lexical(name); ok {
+		return api.Core{Op: api.CoreSet, N: n, Kids: []api.Core{value}}
+	}
+	return api.Core{Op: api.CoreSetSpecial, Data: name, Kids: []api.Core{value}}
 }
 
 func (c *converter) block(l []api.Form, s *scope) api.Core {

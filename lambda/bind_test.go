@@ -406,7 +406,7 @@ func (m *model) list(l lambda.List, value api.Form) {
 func TestP18_1BindAny(t *testing.T) {
 	m := &maker{r: rand.New(rand.NewPCG(18, 1))}
 	counts := map[bool]int{}
-	for range 3000 {
+	for range 1500 {
 		m.next = 0
 		list := m.list(2, true)
 		l := parse(t, list, true)
@@ -429,7 +429,7 @@ func TestP18_1BindAny(t *testing.T) {
 			t.Fatalf("Bind of %s to %s = %s, want %s", list, value, text(f), texts(want.values))
 		}
 	}
-	if counts[true] < 300 || counts[false] < 1000 {
+	if counts[true] < 150 || counts[false] < 500 {
 		t.Errorf("%d lists do not fit, %d do", counts[true], counts[false])
 	}
 }

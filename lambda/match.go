@@ -13,15 +13,37 @@ func Match(l List, args []api.Form) ([]Binding, api.Errno) {
 	if isEndless(l) {
 		return nil, api.ErrForm
 	}
-	var m matcher
-	if e := m.list(l, args, forms.Nil()); e != api.OK {
-		return nil, e
+	var out []Binding
+	for b, e := range bindings(l, args) {
+		if e != api.OK {
+			return nil, e
+		}
+		out = append(out, b)
 	}
-	return m.out, api.OK
+	return out, api.OK
 }
 
-// matcher collects bindings.
-type matcher struct{ out []Binding }
+// bindings comes to the bindings of all variables, or to the first error.
+func bindings(l List, args []api.Form) iter.Seq2[Binding, api.Errno] {
+	return func(yield func(Binding, api.Errno) bool) {
+		m := matcher{goOn: true, yield: yield}
+		if e := m.list(l, args, forms.Nil()); e != api.OK {
+			m.put(Binding{}, e)
+		}
+	}
+}
+
+// matcher hands bindings over, as long as they are wanted.
+type matcher struct {
+	goOn  bool
+	yield func(Binding, api.Errno) bool
+}
+
+func (m *matcher) put(b Binding, e api.Errno) {
+	if m.goOn {
+		m.goOn = m.yield(b, e)
+	}
+}
 
 // list binds the elements of a list, which may have a tail.
 func (m *matcher) list(l List, args []api.Form, tail api.Form) api.Errno {
@@ -136,12 +158,12 @@ func (m *matcher) pattern(l List, value api.Form) api.Errno {
 }
 
 func (m *matcher) bind(v, value api.Form) {
-	m.out = append(m.out, Binding{Var: copied(v), Value: copied(value)})
+	m.put(Binding{Var: copied(v), Value: copied(value)}, api.OK)
 }
 
 // miss binds a variable that gets no value.
 func (m *matcher) miss(v api.Form) {
-	m.out = append(m.out, Binding{Var: copied(v), Value: forms.Nil(), Missing: true})
+	m.put(Binding{Var: copied(v), Value: forms.Nil(), Missing: true}, api.OK)
 }
 
 func truth(b bool) api.Form {

@@ -1020,7 +1020,7 @@ func TestP20_4Any(t *testing.T) {
 	var w *lib.World
 	var roots []int
 	counts := map[int]int{}
-	for i := range 8000 {
+	for i := range 5000 {
 		if i%200 == 0 {
 			w, roots = pool(t)
 			for _, name := range typeNames { // their objects are made by the first fault that names them
@@ -1043,7 +1043,7 @@ func TestP20_4Any(t *testing.T) {
 			}
 		}
 	}
-	if counts[lib.AnswerValues] < 2000 || counts[lib.AnswerFault] < 2000 {
+	if counts[lib.AnswerValues] < 1000 || counts[lib.AnswerFault] < 1000 {
 		t.Errorf("answers: %v", counts)
 	}
 }

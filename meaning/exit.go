@@ -218,14 +218,11 @@ func (r *run) wrongType(x heap.Word, name string) {
 
 // fault calls the function of %FAULT, which may leave, and otherwise ends the run.
 func (r *run) fault(f lib.Fault) {
-	symbol, ok := r.lisp("%FAULT")
-	if !ok {
+	symbol, e := r.w.Symbol(commonLisp, "%FAULT")
+	if e != api.ErrFull && !r.check(e) {
 		return
 	}
-	function, e := r.w.Function(symbol)
-	if !r.check(e) {
-		return
-	}
+	function, _ := r.w.Function(symbol) // of no symbol, for which the table has no room, none
 	if !r.isFunction(function) {
 		r.leave(faulty(f))
 		return

@@ -417,7 +417,7 @@ func TestP21_1Trees(t *testing.T) {
 	if got := run(t, full, "new"); got != "bad 9" {
 		t.Errorf("a symbol too many: %s", got)
 	}
-	if got := run(t, full, "(car 1)"); got != "bad 9" {
+	if got := run(t, full, "(car 1)"); got != "! type-error 1 list" {
 		t.Errorf("a fault without room for its symbol: %s", got)
 	}
 }
