@@ -46,17 +46,6 @@ func (b *body) declare(spec api.Form) {
 	}
 }
 
-// others returns the variables that a body declares special, but that are none of those which are bound.
-func (b body) others(bound []api.Form) []api.Form {
-	var out []api.Form
-	for _, v := range b.specials {
-		if !contains(bound, v) {
-			out = append(out, v)
-		}
-	}
-	return out
-}
-
 // isSpecial reports whether a variable that is bound around a body is special.
 func (c *converter) isSpecial(v api.Form, b body) bool {
 	return contains(c.specials, v) || contains(b.specials, v)
@@ -83,8 +72,7 @@ func bindings(f api.Form, mayRepeat bool) ([]binding, []api.Form) {
 	for _, x := range l {
 		parts := []api.Form{x}
 		if x.Kind != api.FormSymbol {
-			parts, ok = forms.Items(x)
-			need(ok)
+			parts, _ = forms.Items(x)
 		}
 		need(len(parts) > 0 && len(parts) <= 2 && isVariable(parts[0]))
 		if contains(names, parts[0]) && !mayRepeat {
@@ -99,7 +87,7 @@ func bindings(f api.Form, mayRepeat bool) ([]binding, []api.Form) {
 
 func (c *converter) locally(l []api.Form, s *scope) api.Core {
 	b := bodyOf(l)
-	return c.progn(b.forms, s.special(b.others(nil)...))
+	return c.progn(b.forms, s.special(b.specials...))
 }
 
 func (c *converter) let(l []api.Form, s *scope) api.Core {
@@ -128,7 +116,7 @@ func (c *converter) let(l []api.Form, s *scope) api.Core {
 			inner = specials.add(x.name, value, inner)
 		}
 	}
-	out := specials.around(c.progn(b.forms, inner.special(b.others(names)...)))
+	out := specials.around(c.progn(b.forms, inner.special(b.specials...)))
 	if !isAnyLexical {
 		return out
 	}
@@ -161,7 +149,7 @@ func (c *converter) letStar(l []api.Form, s *scope) api.Core {
 	bs, names := bindings(l[0], true)
 	b := bodyOf(l[1:])
 	c.checkSpecials(names, b)
-	return c.chain(bs, b, s, func(s *scope) api.Core { return c.progn(b.forms, s.special(b.others(names)...)) })
+	return c.chain(bs, b, s, func(s *scope) api.Core { return c.progn(b.forms, s.special(b.specials...)) })
 }
 
 // chain converts bindings, each one inside of the one ahead, and what stands inside of all.
@@ -246,8 +234,7 @@ func (c *converter) lambda(x function, s *scope, inner func(s *scope) api.Core) 
 			s = specials.add(name, variable(numbers[i]), s)
 		}
 	}
-	others := x.body.others(lambda.Variables(x.list))
-	body := c.chain(aux, x.body, s, func(s *scope) api.Core { return inner(s.special(others...)) })
+	body := c.chain(aux, x.body, s, func(s *scope) api.Core { return inner(s.special(x.body.specials...)) })
 	out.Kids = append(out.Kids, specials.around(body))
 	return out
 }
@@ -308,7 +295,7 @@ func (c *converter) bindLocal(x local, s *scope) ([]int, *scope) {
 }
 
 func (c *converter) inner(x local, s *scope) api.Core {
-	return c.progn(x.body.forms, s.special(x.body.others(nil)...))
+	return c.progn(x.body.forms, s.special(x.body.specials...))
 }
 
 func (c *converter) flet(l []api.Form, s *scope) api.Core {

@@ -186,6 +186,8 @@ func TestP19_1ConvertLet(t *testing.T) {
 		"(let ())", "(progn)",
 		"(let () 1)", "(const 1)",
 		"(let* () 1 2)", "(progn (const 1) (const 2))",
+		"(let* ())", "(progn)",
+		"(let ((#:x 1)) (setq #:x 2))", "(let [0] (const 1) (set 0 (const 2)))",
 		"(let (x) x)", "(let [0] (const NIL) (var 0))",
 		"(let ((x)) x)", "(let [0] (const NIL) (var 0))",
 		"(let ((x 1) (y x)) y)", "(let [0 1] (const 1) (special X) (var 1))",
@@ -373,6 +375,12 @@ func TestP19_1ConvertOrder(t *testing.T) {
 		"((lambda (x x)) (if))", "! 8",
 		"((lambda () (go a)) (if))", "! 210",
 		"(unwind-protect (if) (go a))", "! 2",
+		"(throw (go a))", "! 2",
+		"(throw 'a (go a) 1)", "! 2",
+		"(let ((#:x (go a))) (declare (special #:x)))", "! 2",
+		"(let* ((#:x (go a))) (declare (special #:x)))", "! 2",
+		"#'(lambda (&optional (#:x (go a))) (declare (special #:x)))", "! 2",
+		"(locally (declare (special #:x)) (go a))", "! 210",
 		"(progv (go a) (if))", "! 210",
 	)
 }

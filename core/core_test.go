@@ -629,6 +629,7 @@ func TestP19_1Free(t *testing.T) {
 		{api.Core{Op: api.CoreLet, Vars: []int{3}, Kids: []api.Core{use(1), use(3)}}, []int{1, 2, 4}},
 		{api.Core{Op: api.CoreLabels, Vars: []int{3}, Kids: []api.Core{use(3), use(3)}}, []int{4}},
 		{api.Core{Op: api.CoreLambda, Pars: []api.Param{{Kind: 2, Var: 3, Given: 4}, {Kind: 1, Var: 9, Given: -1}}, Kids: []api.Core{use(1), use(3), variable(9)}}, []int{1, 2}},
+		{api.Core{Op: api.CoreLambda, Pars: []api.Param{{Kind: 2, Var: 3, Given: 0}}, Kids: []api.Core{constant("1"), use(0)}}, []int{1}},
 		{api.Core{Op: api.CoreBlock, N: 5, Kids: []api.Core{{Op: api.CoreReturn, N: 5, Kids: []api.Core{variable(5)}}}}, []int{5}},
 		{api.Core{Op: api.CoreTagbody, Vars: []int{5}, Kids: []api.Core{variable(5), {Op: api.CoreGo, N: 5}}}, []int{5}},
 	} {
@@ -647,6 +648,7 @@ func TestP19_1Show(t *testing.T) {
 	}{
 		{api.Core{Op: api.CoreSetSpecial, Data: x, Kids: []api.Core{one}}, "(setspecial 1:COMMON-LISP:X (const 2::1))"},
 		{api.Core{Op: api.CoreCallGlobal, Data: x}, "(callglobal 1:COMMON-LISP:X)"},
+		{api.Core{Op: api.CoreCallGlobal, Data: forms.Symbol("azAZ09", "@[`{/:")}, "(callglobal 1:azAZ09:~40~5b~60~7b/~3a)"},
 		{api.Core{Op: api.CoreFunction, Data: forms.Symbol("U V", "a:~é")}, "(function 1:U~20V:a~3a~7e~c3~a9)"},
 		{node(api.CoreValuesCall, one), "(valuescall (const 2::1))"},
 		{node(api.CoreValuesFirst, one, one), "(valuesfirst (const 2::1) (const 2::1))"},
@@ -740,6 +742,14 @@ func TestP19_4Renamed(t *testing.T) {
 	if e != api.OK {
 		t.Fatal(e)
 	}
+	given, e := core.Parse("(lambda 0 {2 1 0 -} (progn) (var 0))")
+	if e != api.OK {
+		t.Fatal(e)
+	}
+	given, _ = core.Renamed(given, 3)
+	if s, _ := core.Show(given); s != "(lambda 0 {2 4 3 -} (progn) (var 3))" {
+		t.Errorf("Renamed = %s", s)
+	}
 	x, e := core.Renamed(c, 10)
 	if e != api.OK {
 		t.Fatal(e)
@@ -818,6 +828,8 @@ func TestP19_4Same(t *testing.T) {
 		{"(let [0] (progn) (var 0))", "(let [0 1] (progn) (progn) (var 0))", false},
 		{"(let [0] (progn) (let [1] (progn) (var 0)))", "(let [1] (progn) (let [0] (progn) (var 0)))", false},
 		{"(let [0] (progn) (let [1] (progn) (var 0)))", "(let [1] (progn) (let [0] (progn) (var 1)))", true},
+		{"(let [0 1] (progn) (progn) (set 0 (progn)))", "(let [0 1] (progn) (progn) (set 1 (progn)))", false},
+		{"(let [0] (progn) (let [1] (progn) (set 0 (var 1))))", "(let [2] (progn) (let [3] (progn) (set 2 (var 3))))", true},
 		{"(block 0 (block 1 (return 0 (progn))))", "(block 1 (block 0 (return 1 (progn))))", true},
 		{"(block 0 (block 1 (return 0 (progn))))", "(block 0 (block 1 (return 1 (progn))))", false},
 		{"(tagbody [0 1] (progn) (go 0) (go 1))", "(tagbody [8 7] (progn) (go 8) (go 7))", true},

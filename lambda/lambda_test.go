@@ -78,6 +78,7 @@ func TestP18_1Parse(t *testing.T) {
 		{"()", ""},
 		{"(a b)", "1 a nil - -; 1 b nil - -"},
 		{"(u::nil #:x list &optional)", "1 u::nil nil - -; 1 #:x nil - -; 1 list nil - -"},
+		{"(u::&rest &rest u::&key)", "1 u::&rest nil - -; 3 u::&key nil - -"},
 		{"(a &optional b (c) (d 1) (e (f) g))", "1 a nil - -; 2 b nil - -; 2 c nil - -; 2 d 1 - -; 2 e (f) g -"},
 		{"(&rest r)", "3 r nil - -"},
 		{"(&body r)", "3 r nil - -"},
@@ -129,7 +130,7 @@ func TestP18_1ParseErrors(t *testing.T) {
 		"a", "5", "#(a)", "t", "(t)", "(:k)", "(5)", "(\"a\")", "(&allow-other-keys)", "(&rest)", "(&rest nil)", "(&rest (a))", "(&rest &optional)", "(&rest a b)", "(&rest a &rest b)", "(&rest a &body b)", "(&rest a &optional b)",
 		"(&optional &optional)", "(&optional nil)", "(&optional t)", "(&optional (a 1 b c))", "(&optional (a . 1))", "(&optional (a 1 t))", "(&optional (a 1 (b)))", "(&optional (5))", "(&optional \"a\")", "(&optional a &key &optional b)",
 		"(&key nil)", "(&key (5))", "(&key ((:a)))", "(&key ((:a b c)))", "(&key ((5 b)))", "(&key (((a) b)))", "(&key (a 1 b c))", "(&key (a 1 :k))", "(&key :a)", "(&key &key)", "(&key &rest a)", "(&key &allow-other-keys a)", "(&key &allow-other-keys &allow-other-keys)", "(&key ((:a . b)))",
-		"(&aux a &key b)", "(&aux (a 1 2))", "(&aux (a . 1))", "(&aux ())", "(&aux &aux)", "(&aux :a)", "(&aux a &rest b)", "(&aux (5))", "(&aux ((a) 1))",
+		"(&aux a &key b)", "(&aux (a 1 2))", "(&aux (a 1 b))", "(&aux (a . 1))", "(&aux ())", "(&aux &aux)", "(&aux :a)", "(&aux a &rest b)", "(&aux (5))", "(&aux ((a) 1))",
 		"(a &whole w)", "(&whole)", "(&whole (a))", "(&whole nil)", "(&whole w &whole v)", "(&optional a &whole w)", "(&environment e &whole w)", "(&whole &environment e)",
 		"(&environment)", "(&environment nil)", "(&environment e &environment f)", "(&rest &environment e r)",
 		"(a . 5)", "(a . t)", "(a . :k)", "(&rest a . b)", "(&key a . b)", "(&key . b)", "(&aux . b)", "#1=(a)", "#1=(a . #1#)", "(#1=a)", "(#1=(a))", "(a . #1=b)",
@@ -377,6 +378,31 @@ func TestP18_2Show(t *testing.T) {
 		if e != api.OK || described(back) != described(l) {
 			t.Errorf("Show(%s) = %s", s, text(f))
 		}
+	}
+}
+
+// Lists that Parse did not return may say the same.
+func TestP18_2ShowOthers(t *testing.T) {
+	a, b := forms.Symbol("U", "A"), forms.Symbol("U", "B")
+	part := &lambda.List{Items: []lambda.Item{{Kind: lambda.Required, Var: a}}}
+	for _, x := range []struct {
+		l    lambda.List
+		want string
+	}{
+		{lambda.List{Items: []lambda.Item{{Kind: lambda.Required, Var: a}, {Kind: lambda.Rest, Var: b}}}, "(u::a &rest u::b)"},
+		{lambda.List{Items: []lambda.Item{{Kind: lambda.Required, Pattern: part}}}, "((u::a))"},
+		{lambda.List{Keys: true, Items: []lambda.Item{{Kind: lambda.Aux, Var: a, Init: forms.Nil()}}}, "(&key &aux u::a)"},
+	} {
+		if f, e := lambda.Show(x.l); e != api.OK || text(f) != x.want {
+			t.Errorf("Show(%v) = %s, %v", x.l, text(f), e)
+		}
+	}
+	twice := lambda.List{Items: []lambda.Item{{Kind: lambda.Required, Pattern: part}, {Kind: lambda.Required, Pattern: part}}}
+	if l := lambda.Variables(twice); texts(l) != "u::a u::a" {
+		t.Errorf("Variables of a pattern that stands twice: %s", texts(l))
+	}
+	if s := matched(twice, arguments(t, "((1) (2))")); s != "u::a=1 u::a=2" {
+		t.Errorf("Match of a pattern that stands twice: %s", s)
 	}
 }
 

@@ -246,13 +246,6 @@ func must(e api.Errno) {
 	}
 }
 
-// reserve panics if there is no room for so many words.
-func (w *World) reserve(words int) {
-	if !w.hasRoom(words) {
-		panic(limited(api.ErrWords))
-	}
-}
-
 // lisp returns the symbol of COMMON-LISP with a name.
 func (w *World) lisp(name string) heap.Word {
 	x, e := w.Symbol(commonLisp, name)

@@ -119,21 +119,15 @@ func boole(op int) binary {
 	return func(x, y api.Form) (api.Form, api.Errno) { return number.Boole(op, x, y) }
 }
 
-// calculated panics with the fault of an error that layer 5 returned for some arguments.
-func (w *World) calculated(e api.Errno, args ...heap.Word) {
+// calculated panics with the fault of an error that layer 5 returned. (It is ErrType for no argument that has the type of the table.)
+func calculated(e api.Errno) {
 	switch e {
 	case api.OK:
-		return
 	case api.ErrZero:
 		panic(fault("DIVISION-BY-ZERO"))
-	case api.ErrType:
-		for _, x := range args {
-			if w.heap.Kind(x) == heap.KindComplex {
-				panic(w.wrongType(x, "REAL"))
-			}
-		}
+	default:
+		panic(fault("ARITHMETIC-ERROR"))
 	}
-	panic(fault("ARITHMETIC-ERROR"))
 }
 
 // forms returns the forms of numbers.
@@ -150,7 +144,7 @@ func (w *World) combined(x api.Form, a []heap.Word, do binary) []heap.Word {
 	for _, y := range a {
 		var e api.Errno
 		x, e = do(x, w.numberForm(y))
-		w.calculated(e, a...)
+		calculated(e)
 	}
 	return one(w.numberObject(x))
 }
@@ -173,7 +167,7 @@ func (w *World) reduced(alone unary, do binary) operation {
 func (w *World) changed(do unary) operation {
 	return func(a []heap.Word) []heap.Word {
 		x, e := do(w.numberForm(a[0]))
-		w.calculated(e, a...)
+		calculated(e)
 		return one(w.numberObject(x))
 	}
 }
@@ -186,7 +180,7 @@ func (w *World) withDefault(otherwise int64, do binary) operation {
 			y = w.numberForm(a[1])
 		}
 		x, e := do(w.numberForm(a[0]), y)
-		w.calculated(e, a...)
+		calculated(e)
 		return one(w.numberObject(x))
 	}
 }
@@ -194,7 +188,7 @@ func (w *World) withDefault(otherwise int64, do binary) operation {
 func (w *World) collected(do func(l []api.Form) (api.Form, api.Errno)) operation {
 	return func(a []heap.Word) []heap.Word {
 		x, e := do(w.forms(a))
-		w.calculated(e, a...)
+		calculated(e)
 		return one(w.numberObject(x))
 	}
 }
@@ -202,7 +196,7 @@ func (w *World) collected(do func(l []api.Form) (api.Form, api.Errno)) operation
 // holds reports whether two numbers are in a relation.
 func (w *World) holds(is func(x, y api.Form) (bool, api.Errno), x, y heap.Word) bool {
 	ok, e := is(w.numberForm(x), w.numberForm(y))
-	w.calculated(e, x, y)
+	calculated(e)
 	return ok
 }
 
@@ -231,7 +225,7 @@ func (w *World) extreme(isBetter func(c int) bool) operation {
 		best := a[0]
 		for _, x := range a[1:] {
 			c, e := number.Cmp(w.numberForm(x), w.numberForm(best))
-			w.calculated(e, x, best)
+			calculated(e)
 			if isBetter(c) {
 				best = x
 			}
@@ -248,7 +242,7 @@ func (w *World) quotient(way int) operation {
 			y = w.numberForm(a[1])
 		}
 		q, r, e := number.Quotient(way, w.numberForm(a[0]), y)
-		w.calculated(e, a...)
+		calculated(e)
 		return []heap.Word{w.numberObject(q), w.numberObject(r)}
 	}
 }
@@ -271,7 +265,7 @@ func (w *World) shifted(a []heap.Word) []heap.Word {
 		n = 0
 	}
 	y, e := number.Shift(x, int(n))
-	w.calculated(e, a...)
+	calculated(e)
 	return one(w.numberObject(y))
 }
 
@@ -282,7 +276,7 @@ func (w *World) raised(a []heap.Word) []heap.Word {
 		panic(fault("ARITHMETIC-ERROR"))
 	}
 	y, e := number.Power(w.numberForm(a[0]), int(n))
-	w.calculated(e, a...)
+	calculated(e)
 	return one(w.numberObject(y))
 }
 
@@ -294,6 +288,6 @@ func (w *World) floated(a []heap.Word) []heap.Word {
 		return one(a[0])
 	}
 	y, e := number.Float(w.numberForm(a[0]), kind)
-	w.calculated(e, a...)
+	calculated(e)
 	return one(w.numberObject(y))
 }

@@ -126,21 +126,9 @@ func (w *World) finding(mayMake bool) operation {
 	}
 }
 
-// found returns a symbol and its status, whose objects must both have room ahead of all changes.
+// found returns a symbol and its status. The symbol of the status is made only if there is room for its object, too.
 func (w *World) found(number, status int) []heap.Word {
 	name := [...]string{symbols.Internal: "INTERNAL", symbols.External: "EXTERNAL", symbols.Inherited: "INHERITED"}[status]
-	known, isThere, e := w.table.Find(keyword, name)
-	must(e)
-	size := w.missing(number)
-	switch {
-	case isThere == symbols.None && w.isFull(1):
-		must(api.ErrFull)
-	case isThere == symbols.None:
-		size += symbolSize(name)
-	case known != number:
-		size += w.missing(known)
-	}
-	w.reserve(size)
 	x, e := w.object(number)
 	must(e)
 	s, e := w.Symbol(keyword, name)

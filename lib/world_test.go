@@ -90,10 +90,13 @@ func TestP20_1NoWorld(t *testing.T) {
 	if _, _, e := w.Name(heap.Nil); e != api.ErrArg {
 		t.Errorf("Name: %v", e)
 	}
-	_, e := w.Value(heap.Nil)
-	_, f := w.Function(heap.Nil)
-	_, g := w.Build(forms.Nil())
-	_, h := w.Show(heap.Nil)
+	value, e := w.Value(heap.Nil)
+	function, f := w.Function(heap.Nil)
+	built, g := w.Build(forms.Nil())
+	form, h := w.Show(heap.Nil)
+	if value != 0 || function != 0 || built != 0 || form.Kind != 0 {
+		t.Error("of no world something is returned")
+	}
 	for i, code := range []api.Errno{e, f, g, h, w.SetValue(heap.Nil, heap.Nil), w.SetFunction(heap.Nil, heap.Nil), w.Print(""), w.Register("X", 0, 0, func([]heap.Word) lib.Answer { return lib.Answer{} })} {
 		if code != api.ErrArg {
 			t.Errorf("%d: %v", i, code)
@@ -137,6 +140,13 @@ func TestP20_1Symbol(t *testing.T) {
 	if symbol(t, w, "P", "x y") != x || symbol(t, w, "CL-USER", "CAR") != symbol(t, w, "COMMON-LISP", "CAR") {
 		t.Error("a symbol has two objects")
 	}
+	for _, number := range []heap.Word{heap.Nil, fix(-1), fix(999)} {
+		y, _ := h.New(heap.KindSymbol, 5)
+		h.Set(y, 0, number)
+		if home, name, e := w.Name(y); e != lib.ErrNoSymbol || home+name != "" {
+			t.Errorf("Name of what is no symbol of the table: %v", e)
+		}
+	}
 	for _, y := range []struct {
 		home, name string
 		e          api.Errno
@@ -148,9 +158,9 @@ func TestP20_1Symbol(t *testing.T) {
 	}
 	for _, y := range []heap.Word{fix(5), heap.Unbound, 7, 1 << 40, build(t, w, "(1)"), build(t, w, "\"x\"")} {
 		_, _, e := w.Name(y)
-		_, f := w.Value(y)
-		_, g := w.Function(y)
-		if e != lib.ErrNoSymbol || f != lib.ErrNoSymbol || g != lib.ErrNoSymbol || w.SetValue(y, 7) != lib.ErrNoSymbol || w.SetFunction(y, heap.Unbound) != lib.ErrNoSymbol {
+		value, f := w.Value(y)
+		function, g := w.Function(y)
+		if value != 0 || function != 0 || e != lib.ErrNoSymbol || f != lib.ErrNoSymbol || g != lib.ErrNoSymbol || w.SetValue(y, 7) != lib.ErrNoSymbol || w.SetFunction(y, heap.Unbound) != lib.ErrNoSymbol {
 			t.Errorf("of the word %d, which is no symbol: %v, %v, %v", y, e, f, g)
 		}
 	}
@@ -194,6 +204,13 @@ func TestP20_6Values(t *testing.T) {
 		if e := w.SetFunction(c, 7); e != heap.ErrWord {
 			t.Errorf("SetFunction of a constant: %v", e)
 		}
+	}
+	w.Symbols().Make("P", nil, nil)
+	if e := w.SetValue(symbol(t, w, "P", "T"), fix(5)); e != api.OK {
+		t.Errorf("SetValue of another T: %v", e)
+	}
+	if e := w.SetValue(symbol(t, w, "COMMON-LISP", "X"), fix(5)); e != api.OK {
+		t.Errorf("SetValue of a symbol of COMMON-LISP: %v", e)
 	}
 	if w.SetValue(x, heap.Unbound) != api.OK || w.SetFunction(x, heap.Unbound) != api.OK {
 		t.Error("nothing is taken away")
@@ -352,6 +369,9 @@ func TestP20_1BuildErrors(t *testing.T) {
 			t.Errorf("Build(%.200v) = %d, %v", x.f, y, e)
 		}
 	}
+	if x, e := w.Build(forms.Symbol("KEYWORD", long[1:])); e != api.OK || shown(t, w, x) != ":"+strings.ToLower(long[1:]) {
+		t.Errorf("Build of a long name: %v", e)
+	}
 	if x, e := w.Build(api.Form{Kind: api.FormString, Text: strings.Repeat("x", 131072)}); e != api.OK || w.Heap().Len(x) != 131072 {
 		t.Errorf("Build of a long string: %v", e)
 	}
@@ -416,12 +436,18 @@ func TestP20_1Full(t *testing.T) {
 	crowd(t, w, 2)
 	before := w.Symbols().Text()
 	for _, s := range []string{"(b c d)", "(#:b #:c #:d)", "(b :b #:b)"} {
-		if _, e := w.Build(read(t, s)); e != api.ErrFull || w.Symbols().Text() != before {
+		if x, e := w.Build(read(t, s)); e != api.ErrFull || x != 0 || w.Symbols().Text() != before {
 			t.Errorf("Build(%s): %v", s, e)
 		}
 	}
+	if got := called(t, w, "(intern \"B\")"); got != "b nil" {
+		t.Errorf("INTERN of the last symbol but one = %s", got)
+	}
+	if got := called(t, w, "(intern \"C\")"); got != "c nil" {
+		t.Errorf("INTERN of the last symbol = %s", got)
+	}
 	build(t, w, "(b c b c car)")
-	if _, e := w.Symbol("CL-USER", "D"); e != api.ErrFull {
+	if x, e := w.Symbol("CL-USER", "D"); e != api.ErrFull || x != 0 {
 		t.Errorf("Symbol: %v", e)
 	}
 	symbol(t, w, "CL-USER", "B")
@@ -446,6 +472,41 @@ func TestP20_1Full(t *testing.T) {
 	}
 	if w.Parts().Counter != 0 {
 		t.Error("a fault was counted")
+	}
+	w = newWorld(t)
+	symbol(t, w, "KEYWORD", "INTERNAL")
+	symbol(t, w, "COMMON-LISP", "LATE")
+	build(t, w, "b")
+	crowd(t, w, 0)
+	if got := called(t, w, "(intern \"B\")"); got != "b :internal" {
+		t.Errorf("INTERN in a full table, with a status that is there = %s", got)
+	}
+	if e := w.Register("LATE", 0, 0, func([]heap.Word) lib.Answer { return lib.Answer{} }); e != api.OK {
+		t.Errorf("Register of a symbol that is there in a full table: %v", e)
+	}
+}
+
+// Register needs just the words of what it makes.
+func TestP20_1RegisterRoom(t *testing.T) {
+	for _, name := range []string{"NEW-FUNCTION", "T", "SEQUENCE"} {
+		add := func(w *lib.World) api.Errno {
+			return w.Register(name, 0, 0, func([]heap.Word) lib.Answer { return lib.Answer{} })
+		}
+		w := newWorld(t)
+		used := w.Heap().Used()
+		if e := add(w); e != api.OK {
+			t.Fatal(e)
+		}
+		size := w.Heap().Used() - used
+		for _, left := range []int{1, size - 1, size} {
+			w := newWorld(t)
+			fill(t, w, left)
+			text, used := w.Symbols().Text(), w.Heap().Used()
+			e := add(w)
+			if left < size && (e != api.ErrWords || w.Symbols().Text() != text || w.Heap().Used() != used) || left == size && e != api.OK {
+				t.Errorf("Register(%s) with %d words of %d: %v", name, left, size, e)
+			}
+		}
 	}
 }
 
@@ -486,6 +547,9 @@ func TestP20_1Room(t *testing.T) {
 		if e := f(); e != api.ErrWords || w.Symbols().Text() != text {
 			t.Errorf("without room: %v", e)
 		}
+	}
+	if x, e := w.Symbol("COMMON-LISP", "HASH-TABLE"); e != api.ErrWords || x != 0 {
+		t.Errorf("the object of a symbol that is there: %v", e)
 	}
 	symbol(t, w, "KEYWORD", "12345678")
 }
@@ -636,7 +700,7 @@ func TestP20_1ShowSizes(t *testing.T) {
 			t.Errorf("Show of %s: %v", x.name, e)
 		}
 	}
-	for _, x := range []heap.Word{array(fix(1), fix(2)), array(vector(fix(-1)), vector()), array(vector(heap.Nil), vector())} {
+	for _, x := range []heap.Word{array(fix(1), fix(2)), array(vector(), fix(2)), array(fix(1), vector(fix(2))), array(vector(fix(-1)), vector()), array(vector(heap.Nil), vector())} {
 		if got := shown(t, w, x); got != "%::object" {
 			t.Errorf("Show of an array that is none = %s", got)
 		}
@@ -860,6 +924,14 @@ func TestP20_1RestoreErrors(t *testing.T) {
 		{"a number twice", api.ErrArg, 65536, func(p *lib.Parts, c *[]heap.Cell, f *[]heap.Field) {
 			p.Numbers = slices.Clone(p.Numbers)
 			p.Numbers[3] = p.Numbers[2]
+		}},
+		{"0 twice", api.ErrArg, 65536, func(p *lib.Parts, c *[]heap.Cell, f *[]heap.Field) {
+			p.Numbers = slices.Clone(p.Numbers)
+			p.Numbers[1] = 0
+		}},
+		{"NIL alone", api.OK, 65536, func(p *lib.Parts, c *[]heap.Cell, f *[]heap.Field) {
+			*f = append([]heap.Field{(*f)[0]}, (*f)[len(p.Numbers):]...)
+			p.Numbers = []int{0}
 		}},
 		{"a number of no symbol", api.ErrArg, 65536, func(p *lib.Parts, c *[]heap.Cell, f *[]heap.Field) {
 			p.Numbers = append(slices.Clone(p.Numbers[:len(p.Numbers)-1]), 999)

@@ -235,6 +235,12 @@ func TestP21_1Exits(t *testing.T) {
 		"(catch 1.5 (throw 1.5 1))", "1",
 		"(catch #c(1 2) (throw #c(1 2) 1))", "1",
 		"(catch #c(1 2) (throw #c(1 3) 1))", "! control-error #C(1 3)",
+		"(catch #c(2 2) (throw #c(1 2) 1))", "! control-error #C(1 2)",
+		"(catch #c(1/2 100000000000000000000) (throw #c(1/2 100000000000000000000) 7))", "7",
+		"(catch #c(1/2 1) (throw #c(1/3 1) 7))", "! control-error #C(1/3 1)",
+		"(catch 1.5 (throw 2.5 1))", "! control-error 2.5",
+		"(catch 1/2 (throw 1/2 1))", "1",
+		"(catch #*1 (throw #*1 1))", "! control-error #*1",
 		"(catch 1.5 (throw 1.5d0 1))", "! control-error 1.5d0",
 		"(catch #\\a (throw #\\a 1))", "1",
 		"(catch 5 (throw 5 1))", "1",
@@ -371,6 +377,7 @@ func TestP21_1Trees(t *testing.T) {
 		{api.Core{Op: api.CoreLabels, Kids: []api.Core{one}}, "1"},
 		{api.Core{Op: api.CoreBind, Kids: []api.Core{one}}, "1"},
 		{api.Core{Op: api.CoreTagbody, Kids: []api.Core{one}}, "nil"},
+		{node(api.CoreCall, api.Core{Op: api.CoreLambda, Pars: []api.Param{{Kind: api.ParamOptional, Var: 1, Given: 0}}, Kids: []api.Core{one, {Op: api.CoreVar}}}, one), "t"},
 		{api.Core{Op: api.CoreVar}, "bad 2"},
 		{api.Core{}, "bad 2"},
 		{node(api.CoreProgn, slices.Repeat([]api.Core{one}, 2000)...), "bad 4"},
@@ -711,6 +718,11 @@ func TestP21_1Code(t *testing.T) {
 	if got, _ := steps("(catch 'out (unwind-protect (c) (princ 2)))", 100); got != "! mine 3" || w.Output() != before+"2" {
 		t.Errorf("a fault of another road: %s, printing %s", got, w.Output())
 	}
+	run(t, w, "(%fset '%fault 'c)")
+	end = lib.End{Values: nil}
+	if got, n := steps("(car 1)", 100); got != "! type-error 1 list" || n != 4 {
+		t.Errorf("a fault that is told to code: %s in %d steps", got, n)
+	}
 	end = lib.End{Kind: lib.EndLimit, Code: api.ErrDepth}
 	if got, _ := steps("(unwind-protect (c) (princ 3))", 100); got != "limit 12" || w.Output() != before+"2" {
 		t.Errorf("a limit of another road: %s", got)
@@ -737,6 +749,91 @@ func TestP21_1Code(t *testing.T) {
 	took = 3
 	if x, n := meaning.Apply(w, code, []heap.Word{fix(1)}, 100); told(t, w, x) != "1 7" || n != 4 {
 		t.Errorf("Apply of code: %s in %d steps", told(t, w, x), n)
+	}
+}
+
+// fill takes all words of a heap but so many.
+func fill(t *testing.T, w *lib.World, left int) {
+	t.Helper()
+	for {
+		n := w.Heap().Limit() - w.Heap().Used() - left
+		if n <= 0 {
+			return
+		}
+		if _, e := w.Heap().New(heap.KindVector, min(n-1, 16384)); e != api.OK {
+			t.Fatal(e)
+		}
+	}
+}
+
+// Without room a run ends with this limit alone, wherever it is.
+func TestP21_1Words(t *testing.T) {
+	for _, s := range []string{
+		"'(1 2)", "\"abc\"", "(let ((x 1) (y 2)) #'(lambda () x))", "(let ((x 1)) (block a (list #'(lambda () (return-from a x)) x)))", "(funcall #'(lambda (&rest r) r) 1 2 3)", "(funcall #'(lambda (&optional (a 1 b) &key (c 2 d)) (list a b c d)) 5)", "(labels ((f () (g)) (g () 5)) (f))", "(progn new-symbol)", "(progn (setq new-symbol 5) (let ((new-symbol 6)) (declare (special new-symbol)) new-symbol))", "(new-function 1)", "#'new-function", "(progv '(s r) '(1 2) (list s r))", "(progv 5 nil 1)", "(tagbody a #'(lambda () (go a)))", "(catch 'new-tag (throw 'new-tag (list 1)))", "(unwind-protect (cons 1 2) (list 1 2))", "(multiple-value-call #'list 1 (values 2 3))", "(progn (%fset '%fault #'(lambda (type data) (throw 'out (cons type data)))) (catch 'out (car 1)))", "(unwind-protect (car 1) (throw 'nowhere 5))",
+	} {
+		w := newWorld(t)
+		w.SetValue(symbol(t, w, "S"), fix(0))
+		want := run(t, w, s)
+		enough := false
+		for left := range 200 {
+			w := newWorld(t)
+			w.SetValue(symbol(t, w, "S"), fix(0))
+			fill(t, w, left)
+			end, _ := meaning.Run(w, tree(t, s), 1000)
+			got := told(t, w, end)
+			if got != "limit 11" && got != want || enough && got != want {
+				t.Fatalf("%s with %d words = %s, want %s", s, left, got, want)
+			}
+			enough = got == want
+		}
+		if !enough {
+			t.Errorf("%s takes more words than 200", s)
+		}
+	}
+}
+
+// A closure keeps its tree as it was.
+func TestP21_1Memory(t *testing.T) {
+	c := tree(t, "#'(lambda (&key ((k x) 1)) (let ((y x)) (let ((s 5)) (declare (special s)) (tagbody a) (list '(1 2) y s))))")
+	w := newWorld(t)
+	end, _ := meaning.Run(w, c, 100)
+	var spoil func(c *api.Core)
+	spoil = func(c *api.Core) {
+		for i := range c.Vars {
+			c.Vars[i] += 7
+		}
+		for i := range c.Syms {
+			c.Syms[i].Text = "OTHER"
+		}
+		for i := range c.Pars {
+			c.Pars[i].Var, c.Pars[i].Key.Text = 77, "OTHER"
+		}
+		for i := range c.Data.Kids {
+			c.Data.Kids[i].Text = "9"
+		}
+		for i := range c.Kids {
+			spoil(&c.Kids[i])
+			c.Kids[i].N += 3
+		}
+	}
+	spoil(&c)
+	if x, _ := meaning.Apply(w, end.Values[0], []heap.Word{symbol(t, w, "K"), fix(8)}, 100); told(t, w, x) != "((1 2) 8 5)" {
+		t.Errorf("a closure of a tree that was changed later: %s", told(t, w, x))
+	}
+}
+
+// What is not begun has no effect.
+func TestP21_4Effects(t *testing.T) {
+	w := newWorld(t)
+	before, used := w.Symbols().Text(), w.Heap().Used()
+	c := tree(t, "(progn (car '(new)) 1)")
+	for limit := range 2 {
+		if end, _ := meaning.Run(w, c, limit); end.Code != api.ErrSteps || w.Symbols().Text() != before || w.Heap().Used() != used {
+			t.Errorf("with %d steps: %v", limit, end)
+		}
+	}
+	if end, _ := meaning.Run(w, tree(t, "(labels ((f () 1)) 1)"), 1); end.Code != api.ErrSteps {
+		t.Errorf("a lambda that is not begun: %v", end)
 	}
 }
 
@@ -773,7 +870,7 @@ func TestP21_1Depth(t *testing.T) {
 	for _, x := range []struct {
 		n    int
 		want string
-	}{{1990, ""}, {2100, "limit 12"}} {
+	}{{1997, ""}, {1998, "limit 12"}, {5000, "limit 12"}} { // one frame for each list, one for PROGN, and two for (= n 0)
 		w := newWorld(t)
 		run(t, w, define)
 		end, _ := meaning.Run(w, tree(t, "(progn (f "+strconv.Itoa(x.n)+") nil)"), api.MaxSteps)

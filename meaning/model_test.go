@@ -654,7 +654,7 @@ func begun(t *testing.T) *lib.World {
 func TestP21_1Any(t *testing.T) {
 	r := &writer{Rand: rand.New(rand.NewPCG(21, 1))}
 	counts := map[int]int{}
-	for range 6000 {
+	for range 5000 {
 		s, c := r.randomTree(t)
 		const most = 400
 		want, m := modelled(c, most)
@@ -682,7 +682,7 @@ func TestP21_1Any(t *testing.T) {
 
 func TestP21_2Any(t *testing.T) {
 	r := &writer{Rand: rand.New(rand.NewPCG(21, 2))}
-	for range 1500 {
+	for range 900 {
 		s, c := r.randomTree(t)
 		d, e := core.Renamed(c, 1+r.IntN(5000))
 		if e != api.OK {
@@ -724,7 +724,7 @@ func TestP21_4Any(t *testing.T) {
 
 func TestP21_5Any(t *testing.T) {
 	r := &writer{Rand: rand.New(rand.NewPCG(21, 5))}
-	for range 1500 {
+	for range 900 {
 		s, c := r.randomTree(t)
 		one := begun(t)
 		x, _ := meaning.Run(one, c, 5000)
