@@ -120,7 +120,7 @@ func (b *binder) checked(l List, value api.Form) api.Form {
 // checks returns forms that go along the list in left, and call %BAD-FORM if it does not fit.
 func (b *binder) checks(l List, left api.Form) []api.Form {
 	var out []api.Form
-	if l.count(Required) == 0 && l.count(Rest) > 0 { // otherwise what follows finds what is no list
+	if l.count(Required) == 0 && l.takesTail() { // otherwise what follows finds what is no list
 		out = append(out, wanted("CONSP", left, wanted("NULL", left, bad())))
 	}
 	for _, x := range l.Items {
@@ -171,9 +171,7 @@ func (b *binder) keyChecks(l List, left api.Form) []api.Form {
 	body := []api.Form{
 		forms.List([]api.Form{forms.List([]api.Form{place, left}), forms.List([]api.Form{isUnknown, forms.Nil()})}),
 		call("TAGBODY", loop...),
-	}
-	if l.count(Rest) == 0 {
-		body = append(body, wanted("NULL", place, bad()))
+		wanted("NULL", place, bad()), // a &REST takes no tail of a list of pairs
 	}
 	if !l.Allow {
 		value := choice(call("CONSP", place), call("CAR", call("CDR", place)), forms.Nil())

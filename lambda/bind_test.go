@@ -131,7 +131,17 @@ func TestP18_1Bind(t *testing.T) {
 		{"(&key a)", "(:b)", "bad"},
 		{"(&key a &allow-other-keys)", "(:b 1 2 3)", "(nil)"},
 		{"(&key a &allow-other-keys)", "(:b 1 2)", "bad"},
-		{"(&rest r &key a)", "(:a 1 . 2)", "((:a 1 . 2) 1)"},
+		{"(&rest r &key a)", "(:a 1 . 2)", "bad"},
+		{"(&rest r &key a)", "(:a 1)", "((:a 1) 1)"},
+		{"(&rest r &key a &allow-other-keys)", "(:b 1 . 2)", "bad"},
+		{"(&rest r &key a)", "(:b 1 :allow-other-keys t . 2)", "bad"},
+		{"(a b &body p &key)", "(2 1 . 9)", "bad"},
+		{"(&optional a &rest p &key)", "(2 . 9)", "bad"},
+		{"(a &rest p &key k)", "(2 :k 5 . 9)", "bad"},
+		{"(a &rest p &key k &allow-other-keys)", "(2 . 9)", "bad"},
+		{"((a &rest p &key) b)", "((2 . 9) 3)", "bad"},
+		{"(&key ((:k (a &rest p &key))))", "(:k (2 . 9))", "bad"},
+		{"(&optional ((a &rest p &key) '(2 . 9)))", "()", "bad"},
 		{"(&rest r &key a)", "(:a . 2)", "bad"},
 		{"(&key ((:k (a b)) '(1 2) c))", "()", "(1 2 nil)"},
 		{"(&key ((:k (a b)) '(1 2) c))", "(:k (3 4))", "(3 4 t)"},
@@ -347,19 +357,85 @@ func (m *model) evaluate(f api.Form) api.Form {
 	return parts[2].Kids[1]
 }
 
+// count returns how many items of a list have a kind.
+func count(l lambda.List, kind int) int {
+	n := 0
+	for _, x := range l.Items {
+		if x.Kind == kind {
+			n++
+		}
+	}
+	return n
+}
+
+// fits says by the definitions whether a value can be bound to a list, up to its init forms.
+func fits(l lambda.List, value api.Form) bool {
+	if value.Kind != api.FormCons && !forms.IsNil(value) {
+		return false
+	}
+	args, tail := forms.Spread(value)
+	required := count(l, lambda.Required)
+	left := args[min(len(args), required+count(l, lambda.Optional)):]
+	switch {
+	case len(args) < required:
+		return false
+	case l.Keys:
+		if len(left)%2 != 0 || !forms.IsNil(tail) || !fitKeys(l, left) {
+			return false
+		}
+	case count(l, lambda.Rest) == 0:
+		if len(left) > 0 || !forms.IsNil(tail) {
+			return false
+		}
+	}
+	for _, x := range l.Items {
+		if (x.Kind == lambda.Required || x.Kind == lambda.Optional) && len(args) > len(left) {
+			if x.Pattern != nil && !fits(*x.Pattern, args[0]) {
+				return false
+			}
+			args = args[1:]
+		}
+		if x.Kind == lambda.Key && x.Pattern != nil {
+			if v := found(left, x.Key); v != nil && !fits(*x.Pattern, *v) {
+				return false
+			}
+		}
+	}
+	return true
+}
+
+// found returns the value of the first pair with a key, or nil.
+func found(left []api.Form, key api.Form) *api.Form {
+	for i := 0; i < len(left); i += 2 {
+		if forms.Equal(left[i], key) {
+			return &left[i+1]
+		}
+	}
+	return nil
+}
+
+func fitKeys(l lambda.List, left []api.Form) bool {
+	others := forms.Symbol("KEYWORD", "ALLOW-OTHER-KEYS")
+	if v := found(left, others); l.Allow || v != nil && !forms.IsNil(*v) {
+		return true
+	}
+	for i := 0; i < len(left); i += 2 {
+		isKey := func(x lambda.Item) bool { return x.Kind == lambda.Key && forms.Equal(x.Key, left[i]) }
+		if !forms.Equal(left[i], others) && !slices.ContainsFunc(l.Items, isKey) {
+			return false
+		}
+	}
+	return true
+}
+
 // list binds a list that fits already, with its init forms.
 func (m *model) list(l lambda.List, value api.Form) {
 	args, tail := forms.Spread(value)
-	if _, e := lambda.Match(lambda.List{Items: []lambda.Item{{Kind: lambda.Required, Pattern: &l}}}, []api.Form{value}); e != api.OK || m.bad {
+	if m.bad || !fits(l, value) {
 		m.bad = true
 		return
 	}
-	all, taken := args, 0
-	for _, x := range l.Items {
-		if x.Kind == lambda.Required || x.Kind == lambda.Optional {
-			taken++
-		}
-	}
+	all, taken := args, count(l, lambda.Required)+count(l, lambda.Optional)
 	left := args[min(len(args), taken):]
 	for _, x := range l.Items {
 		given := true
@@ -377,11 +453,10 @@ func (m *model) list(l lambda.List, value api.Form) {
 				v, args = args[0], args[1:]
 			}
 		case lambda.Key:
-			given = false
-			for i := len(left) - 2; i >= 0; i -= 2 {
-				if forms.Equal(left[i], x.Key) {
-					v, given = left[i+1], true
-				}
+			found := found(left, x.Key)
+			given = found != nil
+			if given {
+				v = *found
 			}
 		case lambda.Aux:
 			given = false
@@ -419,6 +494,10 @@ func TestP18_1BindAny(t *testing.T) {
 		}
 		want := &model{}
 		want.list(l, read(t, value))
+		pattern := lambda.List{Items: []lambda.Item{{Kind: lambda.Required, Pattern: &l}}}
+		if bs, e := lambda.Match(pattern, []api.Form{read(t, value)}); (e == api.OK) != fits(l, read(t, value)) || e != api.OK && len(bs) > 0 {
+			t.Fatalf("Match of %s and %s: %v, %v", list, value, bs, e)
+		}
 		out, f := bound(t, l, read(t, value))
 		isBad := forms.Equal(f, badForm)
 		counts[isBad]++

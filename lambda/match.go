@@ -51,7 +51,7 @@ func (m *matcher) list(l List, args []api.Form, tail api.Form) api.Errno {
 	if len(args) < least || most >= 0 && len(args) > most {
 		return api.ErrSize
 	}
-	if !forms.IsNil(tail) && l.count(Rest) == 0 {
+	if !forms.IsNil(tail) && !l.takesTail() {
 		return api.ErrForm
 	}
 	all, left := args, args[min(len(args), least+l.count(Optional)):]
@@ -82,6 +82,9 @@ func (m *matcher) list(l List, args []api.Form, tail api.Form) api.Errno {
 	}
 	return api.OK
 }
+
+// takesTail reports whether a list that is not proper may fit. With keys it may not, also if there is a &REST: what is left must be a list of pairs.
+func (l List) takesTail() bool { return !l.Keys && l.count(Rest) > 0 }
 
 // checkKeys returns the error of what is left for keys.
 func (l List) checkKeys(left []api.Form) api.Errno {
